@@ -1,0 +1,1 @@
+"""How many years of a title must be searched."""
