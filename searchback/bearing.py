@@ -73,7 +73,8 @@ def _bearing_parts(custom, questions):
         size = len(lot)
         for index, clause in enumerate(custom.clauses):
             if _changes_some(clause, lot):
-                for part in _parts_behind(custom, index, lot):
+                parts = _parts_behind(custom, index, lot)
+                for part in parts:
                     lot[part] = True
     return lot
 

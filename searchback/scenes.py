@@ -27,18 +27,14 @@ class Scene:
 
 def fitting_scene(custom, index):
     """A scene in which all conditions of the clause hold, or None if there is none."""
-    _check_index(custom, index)
-    kind = custom.clauses[index].kind
-    move = [move for move in custom.moves[kind] if move.index == index][0]
-    return _scene_of(custom, kind, move, [])
+    move, _ = _move_and_earlier(custom, index)
+    return _scene_of(custom, custom.clauses[index].kind, move, [])
 
 
 def acting_scene(custom, index):
     """A scene in which the clause acts, or None if there is none."""
-    _check_index(custom, index)
-    kind = custom.clauses[index].kind
-    move = [move for move in custom.moves[kind] if move.index == index][0]
-    return _scene_of(custom, kind, move, [move for move in custom.moves[kind] if move.index < index])
+    move, earlier = _move_and_earlier(custom, index)
+    return _scene_of(custom, custom.clauses[index].kind, move, earlier)
 
 
 def never_acting(custom):
@@ -58,9 +54,12 @@ def differing_scene(one, other):
     return None
 
 
-def _check_index(custom, index):
+def _move_and_earlier(custom, index):
+    """The move of a clause, and those of the earlier clauses of its kind."""
     if not is_whole(index, 0, len(custom) - 1):
         raise NoClause(index)
+    moves = [move for move in custom.moves[custom.clauses[index].kind] if move.index <= index]
+    return (moves[-1], moves[:-1])
 
 
 def _shape_fault(one, other):

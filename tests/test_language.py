@@ -1,0 +1,276 @@
+"""What a short test can see of the rules of LANGUAGE.md."""
+
+import ast
+import builtins
+import os
+import re
+import unittest
+import warnings
+
+FOLDER = os.path.join(os.path.dirname(os.path.dirname(os.path.abspath(__file__))), "searchback")
+FILES = sorted(os.listdir(FOLDER))
+BUILTINS = set("""len range enumerate zip min max sum abs sorted reversed int str bool list tuple dict set isinstance ord
+repr any all divmod iter ValueError NotImplemented property classmethod staticmethod""".split())
+METHODS = set("""append clear copy count endswith extend find get index insert isalnum isalpha isdigit islower isspace
+isupper items join keys ljust lower lstrip partition pop remove replace reverse rfind rjust rpartition rsplit rstrip
+setdefault split splitlines startswith strip update upper values zfill bit_length isascii add discard""".split())
+DUNDERS = {"__init__", "__eq__", "__repr__", "__str__", "__len__", "__iter__", "__contains__"}
+WORDS = set("""type typing enum Enum Flag Generic Protocol ABC ABCMeta namedtuple NamedTuple TypedDict abstractmethod
+dataclass overload contextmanager""".split())
+BARRED = set("""register mro elements open input law version_info with_traceback add_note attrgetter breakpoint builtins
+compile copyright credits delattr dir eval exec exit gc getattr globals hasattr help id importlib license locals
+methodcaller os quit setattr super type vars sys""".split())
+STATEMENTS = (
+    ast.FunctionDef, ast.ClassDef, ast.Return, ast.Assign, ast.AugAssign, ast.For, ast.While, ast.If, ast.Raise, ast.Try,
+    ast.Assert, ast.ImportFrom, ast.Expr, ast.Pass, ast.Break, ast.Continue, ast.Delete,
+)
+TAKES_LISTS = ("any", "all", "min", "max", "sum", "sorted")
+
+
+def text_of(name):
+    with open(os.path.join(FOLDER, name), encoding="utf-8", newline="") as file:
+        return file.read()
+
+
+def trees():
+    return {name: ast.parse(text_of(name)) for name in FILES}
+
+
+def walked(kind):
+    """Each node of this kind, with the file and the line in which it stands."""
+    for name, tree in trees().items():
+        for node in ast.walk(tree):
+            if isinstance(node, kind):
+                yield f"{name}:{getattr(node, 'lineno', 0)}", node
+
+
+def local_names(function):
+    """The parameters of a function and the names that it binds."""
+    found = [arg.arg for arg in ast.walk(function.args) if isinstance(arg, ast.arg)]
+    for node in ast.walk(function):
+        if isinstance(node, ast.Name) and isinstance(node.ctx, ast.Store):
+            found.append(node.id)
+    return found
+
+
+def top_names(tree):
+    """The names that a file binds at module level, in order."""
+    found = []
+    for node in tree.body:
+        if isinstance(node, (ast.FunctionDef, ast.ClassDef)):
+            found.append(node.name)
+        elif isinstance(node, ast.Assign):
+            found.extend(target.id for target in node.targets)
+        elif isinstance(node, ast.ImportFrom):
+            found.extend(alias.asname or alias.name for alias in node.names)
+    return found
+
+
+class FilesTest(unittest.TestCase):
+    def test_only_plain_files(self):
+        self.assertIn("__init__.py", FILES)
+        self.assertLessEqual(len(FILES), 100)
+        for name in FILES:
+            self.assertRegex(name, r"^([a-z][a-z0-9_]*|__init__)\.py$")
+
+    def test_signs(self):
+        for name in FILES:
+            self.assertRegex(text_of(name), r"\A[ -~\n]*\Z", name)
+
+    def test_sizes(self):
+        for name in FILES:
+            lines = text_of(name).split("\n")
+            self.assertLessEqual(len(lines) - 1, 399, name)
+            for index, line in enumerate(lines):
+                self.assertLessEqual(len(line), 120, (name, index + 1))
+                self.assertEqual(line, line.rstrip(), (name, index + 1))
+        for place, node in walked(ast.FunctionDef):
+            self.assertLessEqual(node.end_lineno - node.lineno + 1, 40, place)
+
+    def test_no_warnings(self):
+        with warnings.catch_warnings():
+            warnings.simplefilter("error")
+            for name in FILES:
+                compile(text_of(name), name, "exec")
+
+
+class ImportsTest(unittest.TestCase):
+    def test_from_the_very_file(self):
+        names = {name: top_names(tree) for name, tree in trees().items()}
+        own = {name: [n.name for n in tree.body if isinstance(n, (ast.FunctionDef, ast.ClassDef))]
+               + [t.id for n in tree.body if isinstance(n, ast.Assign) for t in n.targets]
+               for name, tree in trees().items()}
+        for place, node in walked((ast.Import, ast.ImportFrom)):
+            self.assertIsInstance(node, ast.ImportFrom, place)
+            self.assertRegex(node.module, r"^searchback\.[a-z]+$", place)
+            self.assertEqual(node.level, 0, place)
+            for alias in node.names:
+                self.assertIsNone(alias.asname, place)
+                self.assertIn(alias.name, own[node.module.partition(".")[2] + ".py"], place)
+        for name, found in names.items():
+            self.assertEqual(len(found), len(set(found)), name)
+
+    def test_no_ring(self):
+        needs = {name: set() for name in FILES}
+        for place, node in walked(ast.ImportFrom):
+            needs[place.partition(":")[0]].add(node.module.partition(".")[2] + ".py")
+        while needs:
+            free = [name for name, others in needs.items() if not others & set(needs)]
+            self.assertTrue(free, needs)
+            needs = {name: others for name, others in needs.items() if name not in free}
+
+    def test_imports_are_used(self):
+        for name, tree in trees().items():
+            used = {node.id for node in ast.walk(tree) if isinstance(node, ast.Name)}
+            for node in tree.body:
+                if isinstance(node, ast.ImportFrom):
+                    for alias in node.names:
+                        self.assertIn(alias.name, used, name)
+
+
+class RulesTest(unittest.TestCase):
+    def test_module_level(self):
+        for name, tree in trees().items():
+            self.assertIsInstance(tree.body[0].value, ast.Constant, name)
+            for node in tree.body[1:]:
+                self.assertIsInstance(node, (ast.ImportFrom, ast.FunctionDef, ast.ClassDef, ast.Assign), name)
+                if isinstance(node, ast.Assign):
+                    self.assertEqual(len(node.targets), 1)
+                    ast.literal_eval(node.value)
+
+    def test_statements(self):
+        for place, node in walked(ast.stmt):
+            self.assertIsInstance(node, STATEMENTS, place)
+            if isinstance(node, ast.Expr):
+                self.assertIsInstance(node.value, (ast.Constant, ast.Call, ast.Yield), place)
+        for place, node in walked(ast.ExceptHandler):
+            self.assertIsNotNone(node.type, place)
+            self.assertNotIn(node.type.id, ("Exception", "ValueError", "LookupError", "IndexError"), place)
+
+    def test_expressions(self):
+        for place, node in walked((ast.Lambda, ast.NamedExpr, ast.Div, ast.Await, ast.Pow, ast.AnnAssign)):
+            self.fail(place)
+        for place, node in walked(ast.Constant):
+            self.assertNotIsInstance(node.value, (float, complex, bytes), place)
+            if isinstance(node.value, str):
+                self.assertNotIn("%", node.value, place)
+        for place, node in walked(ast.Compare):
+            for sign, right in zip(node.ops, node.comparators):
+                if isinstance(sign, (ast.Is, ast.IsNot)):
+                    self.assertIsInstance(right, ast.Constant, place)
+                    self.assertIn(right.value, (None, True, False), place)
+
+    def test_names(self):
+        for name, tree in trees().items():
+            tops = set(top_names(tree))
+            imported = {alias.name for node in tree.body if isinstance(node, ast.ImportFrom) for alias in node.names}
+            classes = {node.name for node in tree.body if isinstance(node, ast.ClassDef)}
+            for top in tops:
+                self.assertFalse(hasattr(builtins, top) or top in BARRED, (name, top))
+            for node in ast.walk(tree):
+                if isinstance(node, ast.FunctionDef):
+                    for local in local_names(node):
+                        self.assertNotIn(local, imported | classes | BARRED, (name, node.name))
+                        self.assertFalse(hasattr(builtins, local), (name, node.name, local))
+                if isinstance(node, ast.Name) and isinstance(node.ctx, ast.Load):
+                    self.assertNotEqual(node.id, "_", (name, node.lineno))
+                    if hasattr(builtins, node.id):
+                        self.assertIn(node.id, BUILTINS, (name, node.lineno))
+                if isinstance(node, (ast.Name, ast.Attribute)):
+                    word = node.id if isinstance(node, ast.Name) else node.attr
+                    self.assertTrue(not word.startswith("__") or word in ("__class__", "__name__"), (name, node.lineno))
+
+    def test_methods(self):
+        own = {node.name for _, node in walked(ast.FunctionDef)}
+        for place, node in walked(ast.Call):
+            if isinstance(node.func, ast.Attribute):
+                self.assertIn(node.func.attr, own | METHODS, place)
+                if node.func.attr in METHODS:
+                    self.assertEqual(node.keywords, [], place)
+            else:
+                self.assertIsInstance(node.func, ast.Name, place)
+        for _, node in walked(ast.ClassDef):
+            named = [part.name for part in node.body if isinstance(part, ast.FunctionDef)]
+            self.assertEqual(len(named), len(set(named)), node.name)
+            for word in named:
+                self.assertTrue(not word.startswith("__") or word in DUNDERS, (node.name, word))
+
+    def test_decorators(self):
+        methods = [part for _, node in walked(ast.ClassDef) for part in node.body if isinstance(part, ast.FunctionDef)]
+        for place, node in walked(ast.FunctionDef):
+            for mark in node.decorator_list:
+                self.assertIn(mark.id, ("property", "classmethod"), place)
+                self.assertIn(node.name, [part.name for part in methods], place)
+        names = [part.name for part in methods if not part.decorator_list]
+        for part in methods:
+            if part.decorator_list:
+                self.assertNotIn(part.name, names)
+
+    def test_attributes_are_no_methods_or_properties(self):
+        stored = {node.attr for _, node in walked(ast.Attribute) if isinstance(node.ctx, ast.Store)}
+        for _, node in walked(ast.ClassDef):
+            own = {part.attr for part in ast.walk(node) if isinstance(part, ast.Attribute) and isinstance(part.ctx, ast.Store)}
+            named = {part.name: part for part in node.body if isinstance(part, ast.FunctionDef)}
+            self.assertFalse(own & set(named), node.name)
+            for word, part in named.items():
+                if part.decorator_list:
+                    self.assertNotIn(word, stored, node.name)
+
+    def test_generators(self):
+        yielding = {node.name for _, node in walked(ast.FunctionDef)
+                    if any(isinstance(part, (ast.Yield, ast.YieldFrom)) for part in ast.walk(node))}
+        names = [node.name for _, node in walked(ast.FunctionDef)]
+        for name in yielding:
+            self.assertEqual(names.count(name), 1)
+        for name, tree in trees().items():
+            iterated = set()
+            for node in ast.walk(tree):
+                if isinstance(node, (ast.For, ast.comprehension)):
+                    iterated.add(id(node.iter))
+            for node in ast.walk(tree):
+                if isinstance(node, ast.Call):
+                    word = node.func.id if isinstance(node.func, ast.Name) else node.func.attr
+                    if word in yielding:
+                        self.assertIn(id(node), iterated, (name, node.lineno))
+
+    def test_lists_instead_of_generator_expressions(self):
+        for place, node in walked(ast.Call):
+            if isinstance(node.func, ast.Name) and node.func.id in TAKES_LISTS:
+                for arg in node.args:
+                    self.assertNotIsInstance(arg, ast.GeneratorExp, place)
+
+    def test_sets(self):
+        for name, tree in trees().items():
+            for node in ast.walk(tree):
+                if isinstance(node, (ast.Set, ast.SetComp)):
+                    self.fail((name, node.lineno))
+                if isinstance(node, (ast.For, ast.comprehension)) and isinstance(node.iter, ast.Call):
+                    if isinstance(node.iter.func, ast.Name):
+                        self.assertNotEqual(node.iter.func.id, "set", name)
+
+    def test_words(self):
+        for name, tree in trees().items():
+            bare = re.sub(r'"""[\s\S]*?"""|#.*', "", text_of(name))
+            for word in re.findall(r"\w+", bare):
+                self.assertNotIn(word, WORDS, name)
+                self.assertNotRegex(word, r"dataclass|overload|contextmanager|_wall|_WallAttr", name)
+
+    def test_loops_do_not_change_what_they_go_over(self):
+        changing = {"append", "clear", "extend", "insert", "pop", "remove", "reverse", "setdefault", "update"}
+        for place, node in walked(ast.For):
+            over = ast.dump(node.iter)
+            for part in ast.walk(ast.Module(node.body, [])):
+                if isinstance(part, ast.Call) and isinstance(part.func, ast.Attribute) and part.func.attr in changing:
+                    self.assertNotIn(ast.dump(part.func.value), over, place)
+                if isinstance(part, ast.Subscript) and not isinstance(part.ctx, ast.Load):
+                    self.assertNotIn(ast.dump(part.value), over, place)
+
+    def test_errors_are_made_on_the_spot(self):
+        for place, node in walked(ast.Raise):
+            self.assertIsInstance(node.exc, ast.Call, place)
+            self.assertIsInstance(node.exc.func, ast.Name, place)
+            self.assertEqual(node.exc.keywords, [], place)
+
+
+if __name__ == "__main__":
+    unittest.main()
