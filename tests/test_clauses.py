@@ -48,6 +48,12 @@ class PiecesTest(Case):
         self.same_only(Condition, [Change()])
         self.same_only(Change, [Condition()])
 
+    def test_a_class_of_the_same_name_is_another_class(self):
+        for make in (Condition, Change, SamePerson, Apart, *CONDITIONS, *CHANGES):
+            other = type(type(make()).__name__, (), vars(make()))()
+            self.assertFalse(make() == other)
+            self.assertTrue(make() != other)
+
     def test_listed_methods_stand_in_the_classes(self):
         for make in CONDITIONS:
             self.assertIn("opposite", vars(type(make())))

@@ -298,6 +298,9 @@ class StepTest(Case):
         custom.after_year(stand)
         custom.ticked(stand)
         self.assertEqual((stand.code, deed, custom), (code, ["takes", "x"], wide_custom()))
+        behind = custom.after(stand, deed)
+        deed.clear()
+        self.assertEqual(behind.seats, ("x", None, None))
 
 
 if __name__ == "__main__":

@@ -143,6 +143,8 @@ class PiecesTest(Case):
         self.assertEqual(later, History(KINDS, [*YEARS, [("open",), ("grant", "bob")]]))
         self.is_tuple_throughout(later.years)
         self.assertEqual(history, made())
+        self.keeps_nothing(history.then_year, ["open"], ["grant", "bob"])
+        self.keeps_nothing(lambda *years: History.from_years(KINDS, *years), [["open"]], [], [("grant", "bob")])
 
     def test_then_year_refuses(self):
         for thing in NO_SEQUENCES:

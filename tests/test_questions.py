@@ -12,8 +12,9 @@ NARROW = Custom(Kinds([("open", 0)]), ["calm"], ["heir"], [], [])
 QUESTIONS = [
     lambda: Who("owner"), lambda: Filled("owner"), lambda: Together("owner", "heir"), lambda: Together("heir", "owner"),
     lambda: Reached("idle", 2), lambda: Reached("age", 2), lambda: Reached("idle", 3), Room, lambda: Who("heir"),
-    lambda: Filled("heir"), lambda: Together("owner", "agent"),
+    lambda: Filled("heir"), lambda: Together("agent", "heir"), lambda: Together("owner", "agent"),
 ]
+POSSIBLE = QUESTIONS[:-2]
 
 
 class QuestionTest(Case):
@@ -50,8 +51,13 @@ class QuestionTest(Case):
         for index, make in enumerate(QUESTIONS):
             self.same_only(make, [*[other() for at, other in enumerate(QUESTIONS) if at != index], Question()])
 
+    def test_a_class_of_the_same_name_is_another_class(self):
+        for name in ("Who", "Room", "Question"):
+            other = type(name, (), {"seat": "owner"})()
+            self.assertFalse(Who("owner") == other or Room() == other or Question() == other)
+
     def test_fault(self):
-        for make in QUESTIONS[:-1]:
+        for make in POSSIBLE:
             self.assertIsNone(make().fault(CUSTOM))
         self.assertEqual(Who("agent").fault(CUSTOM), "seat")
         self.assertEqual(Filled("agent").fault(CUSTOM), "seat")
@@ -85,7 +91,7 @@ class QuestionTest(Case):
         self.refuses((BadQuestion, "seat"), Together("heir", "agent").of, CUSTOM, good)
         self.refuses((BadQuestion, "clock"), Reached("heir", 1).of, CUSTOM, None)
         self.refuses((BadQuestion, "number"), Reached("idle", 4).of, CUSTOM, None)
-        for make in QUESTIONS[:-1]:
+        for make in POSSIBLE:
             self.refuses((BadStand, "stand"), make().of, CUSTOM, None)
             self.refuses((BadStand, "room"), make().of, CUSTOM, Stand("free", ["a"]))
             self.refuses((BadStand, "seats"), make().of, CUSTOM, Stand("calm", ["a"]))

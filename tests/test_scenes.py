@@ -275,6 +275,7 @@ class DifferingTest(Case):
         # At a year's end a clock below 1 does not run, so it can be made to run, but not be halted.
         self.assertIsNone(differing_scene(none, custom_of(Clause("year", held, [Halt("idle")]))))
         self.parts(none, custom_of(Clause("year", held, [Run("idle")])))
+        self.parts(custom_of(Clause("year", held, [Run("idle")])), custom_of(Clause("year", held, [Halt("idle")])))
         self.assertIsNone(differing_scene(none, custom_of(Clause("year", held, [Zero("idle")]))))
         self.parts(none, custom_of(Clause("year", [AtLeast("idle", 1)], [Zero("idle")])))
 
