@@ -43,3 +43,8 @@ def fresh_labels(taken, many):
             found.append(label)
         index += 1
     return tuple(found)
+
+
+def is_count(thing):
+    """Whether the thing is a whole number from 0, of any size."""
+    return is_whole(thing, 0, thing)

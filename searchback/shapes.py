@@ -1,13 +1,52 @@
-"""Plain rows of seats, and the deeds that can be told apart in a stand."""
+"""Rows of seats and of clocks that can be told apart, and the deeds that can be in a stand.
 
-from searchback.labels import fresh_labels, label_at
+Some persons may be named: they keep their labels. All others are called, in the order of their
+first seats, by the first labels that no named one has. A row of seats called so is *placed*; if
+nobody is named, it is plain.
+"""
+
+from searchback.labels import fresh_labels
 
 
-def seatings(many):
-    """All plain rows of so many seats; compared seat by seat, nobody comes first, then a, b, c."""
+def seatings(many, named=()):
+    """All placed rows of so many seats.
+
+    Compared seat by seat, nobody comes first, then the named ones, then the others.
+    """
+    labels = fresh_labels(named, many)
     rows = [()]
     for _ in range(many):
-        rows = [(*row, person) for row in rows for person in _next_sitters(row)]
+        rows = [(*row, person) for row in rows for person in _next_sitters(row, named, labels)]
+    return rows
+
+
+def placed_names(seats, named=()):
+    """For each person who sits what it is called in the placed row, in the order of the seats."""
+    seated = sitters(seats)
+    others = [person for person in seated if person not in named]
+    labels = fresh_labels(named, len(others))
+    return {person: person if person in named else labels[others.index(person)] for person in seated}
+
+
+def placed(seats, named=()):
+    """The placed row of these seats."""
+    return called(seats, placed_names(seats, named))
+
+
+def called(seats, names):
+    """The seats with each person replaced by what it leads to."""
+    return tuple([None if person is None else names[person] for person in seats])
+
+
+def clock_rows(clocks):
+    """All that the clocks of a custom can show.
+
+    The first clock counts most, each by its number, and halted comes ahead of running.
+    """
+    rows = [()]
+    for clock in clocks:
+        shown = [(number, running) for number in range(clock[1] + 1) for running in (False, True)]
+        rows = [(*row, reading) for row in rows for reading in shown]
     return rows
 
 
@@ -35,7 +74,7 @@ def sitters(seats):
     return tuple(found)
 
 
-def _next_sitters(row):
-    """Who can sit behind a plain row of seats, so that it stays plain."""
-    seated = sitters(row)
-    return (None, *seated, label_at(len(seated)))
+def _next_sitters(row, named, labels):
+    """Who can sit behind a placed row of seats, so that it stays placed."""
+    others = [person for person in sitters(row) if person not in named]
+    return (None, *named, *others, labels[len(others)])
