@@ -1,10 +1,10 @@
 """Which parts of a custom bear on the answers to questions."""
 
+from searchback.checks import check_questions
 from searchback.clauses import Clause, Put, ToRoom
 from searchback.customs import Custom
-from searchback.errors import BadQuestion
 from searchback.parts import named_things
-from searchback.questions import Filled, Reached, Together, Who, question_fault
+from searchback.questions import Filled, Reached, Together, Who
 
 # Parts are pairs (sort, label); all rooms together are one part.
 ROOM_PART = ("room", "")
@@ -61,10 +61,7 @@ def narrowed(custom, question, *more):
 def _bearing_parts(custom, questions):
     """The least lot, as a dict with the parts as its keys."""
     lot = {}
-    for question in questions:
-        word = question_fault(custom, question)
-        if word is not None:
-            raise BadQuestion(word)
+    check_questions(custom, questions)
     for question in questions:
         for part in _asked_parts(question):
             lot[part] = True

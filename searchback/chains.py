@@ -1,9 +1,10 @@
 """How a seat came to be held, for how long, and what raised a clock."""
 
+from searchback.checks import check_kinds
 from searchback.clauses import Put, Zero
 from searchback.errors import BadClock, BadSeat
 from searchback.labels import is_label
-from searchback.walks import check_kinds, code_steps, end_codes
+from searchback.walks import code_steps, end_codes
 
 
 class Link:

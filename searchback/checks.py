@@ -1,10 +1,16 @@
 """Errors that several functions raise in the same way."""
 
-from searchback.errors import BadQuestion, BadStand, NoKind, TooMany
+from searchback.errors import BadQuestion, BadStand, NoKind, OtherKinds, TooMany
 from searchback.labels import is_sequence
 from searchback.questions import question_fault
 
 MOST_STANDS = 400
+
+
+def check_kinds(custom, thing):
+    """Raise OtherKinds unless the history or abstract has the custom's kinds."""
+    if custom.kinds != thing.kinds:
+        raise OtherKinds()
 
 
 def check_questions(custom, questions):

@@ -22,13 +22,13 @@ class Climb:
         self.roots = tuple(roots)
         self.heights = {}
         self.turn = None
-        self.led = {}
-        self.ended = {}
+        self.deed_ways = {}
+        self.end_ways = {}
         self.numbers = {}
         self.least = {}
         self.at = {}
         self.places = {}
-        self.path = []
+        self.trail = []
         self.waiting = []
         for root in self.roots:
             if root not in self.numbers:
@@ -43,15 +43,15 @@ class Climb:
 
     def _go_from(self, root):
         self._enter(root)
-        while self.path:
-            node = self.path[-1]
-            ways = self.led[node]
+        while self.trail:
+            node = self.trail[-1]
+            ways = self.deed_ways[node]
             place = self.at[node]
             self.at[node] = place + 1
             if place < len(ways):
                 to = ways[place]
-            elif place == len(ways) and self.ended[node] is not None:
-                to = self.ended[node]
+            elif place == len(ways) and self.end_ways[node] is not None:
+                to = self.end_ways[node]
             else:
                 self._leave(node)
                 continue
@@ -61,20 +61,20 @@ class Climb:
                 self.least[node] = min(self.least[node], self.numbers[to])
 
     def _enter(self, node):
-        self.led[node] = self.graph.led(node)
-        self.ended[node] = self.graph.ended(node)
+        self.deed_ways[node] = self.graph.led(node)
+        self.end_ways[node] = self.graph.ended(node)
         self.numbers[node] = len(self.numbers)
         self.least[node] = self.numbers[node]
         self.at[node] = 0
         self.places[node] = len(self.waiting)
-        self.path.append(node)
+        self.trail.append(node)
         self.waiting.append(node)
 
     def _leave(self, node):
         """Go back from a node all of whose ways are gone."""
-        self.path.pop()
-        if self.path:
-            ahead = self.path[-1]
+        self.trail.pop()
+        if self.trail:
+            ahead = self.trail[-1]
             self.least[ahead] = min(self.least[ahead], self.least[node])
         if self.least[node] == self.numbers[node]:
             lot = self.waiting[self.places[node]:]
@@ -87,8 +87,8 @@ class Climb:
         height = 0
         turn = None
         for node in lot:
-            height = max([height, *[self.heights[to] for to in self.led[node] if to not in inside]])
-            to = self.ended[node]
+            height = max([height, *[self.heights[to] for to in self.deed_ways[node] if to not in inside]])
+            to = self.end_ways[node]
             if to is not None:
                 height = max(height, 1 if self.graph.is_unlike(to) else 0)
                 if to in inside:

@@ -7,7 +7,6 @@ them, the binary digit of its number, so that lots of thousands of stands are jo
 
 from searchback.customs import deed_step, end_step
 from searchback.faces import Faces
-from searchback.kinds import YEAR
 from searchback.labels import fresh_labels
 from searchback.moves import view_of
 from searchback.shapes import called, kind_deeds, placed, seatings, sitters
@@ -40,6 +39,7 @@ class Frame:
         self.row_lots = {}
         self.kind_ways = {}
         self.ways = {}
+        self.known_years = {}
         self.ends = []
         self.start = self.number_of(custom.start.code)
 

@@ -1,10 +1,11 @@
 """Deeds that can be left out of a history."""
 
+from searchback.checks import check_kinds
 from searchback.customs import deed_step, end_step
 from searchback.errors import BadSpot
 from searchback.histories import history_of
 from searchback.labels import is_sequence, is_whole
-from searchback.walks import check_kinds, code_behind, code_steps
+from searchback.walks import code_behind, code_steps
 
 
 class YearTrial:

@@ -72,14 +72,14 @@ def _rows_to(climb, start, goal):
     before = {start: None}
     waiting = [start]
     at = 0
-    while not _is_goal(climb, climb.ended[waiting[at]], goal):
+    while not _is_goal(climb, climb.end_ways[waiting[at]], goal):
         node = waiting[at]
         at += 1
-        for to in climb.led[node]:
+        for to in climb.deed_ways[node]:
             if to not in before:
                 before[to] = (node, False)
                 waiting.append(to)
-        to = climb.ended[node]
+        to = climb.end_ways[node]
         if to is not None and to not in before:
             before[to] = (node, True)
             waiting.append(to)
@@ -112,14 +112,15 @@ def _falling_rows(climb, node, years):
         before = {node: None}
         waiting = [node]
         at = 0
-        while not _falls_by_one(climb, climb.ended[waiting[at]], height):
-            for to in climb.led[waiting[at]]:
-                if to not in before and climb.heights[to] == height:
-                    before[to] = (waiting[at], False)
-                    waiting.append(to)
+        while not _falls_by_one(climb, climb.end_ways[waiting[at]], height):
+            ahead = waiting[at]
             at += 1
+            for to in climb.deed_ways[ahead]:
+                if to not in before and climb.heights[to] == height:
+                    before[to] = (ahead, False)
+                    waiting.append(to)
         rows.extend(_rows_back(before, waiting[at]))
-        node = climb.ended[waiting[at]]
+        node = climb.end_ways[waiting[at]]
     return rows
 
 

@@ -1,6 +1,7 @@
 """Plain stands, their order, and the deeds that can be told apart."""
 
-from searchback.errors import BadIndex, BadPerson, BadStand
+from searchback.checks import check_stand
+from searchback.errors import BadIndex, BadPerson
 from searchback.labels import is_label, is_whole
 from searchback.shapes import clock_rows, kind_deeds, placed, placed_names, seatings
 from searchback.stand import Stand
@@ -28,9 +29,7 @@ def all_stands(custom):
 
 def stand_place(custom, stand):
     """How many plain stands come ahead of the plain stand of this one."""
-    word = custom.stand_fault(stand)
-    if word is not None:
-        raise BadStand(word)
+    check_stand(custom, stand)
     rows = seatings(len(custom.seats))
     place = custom.rooms.index(stand.room) * len(rows) + rows.index(placed(stand.seats))
     for clock, (number, running) in zip(custom.clocks, stand.clocks):

@@ -73,7 +73,7 @@ class Coming:
                 raise BadYears(exactly)
             years = exactly
             lots = self._lots_of(exactly)
-        if years is None or not lots[years] >> number & 1:
+        if years is None or not (lots[years] >> number) & 1:
             raise NoStand()
         free = [((), self.custom.kinds.names) for _ in range(years)]
         rows = years_back(self.frame, lots[:years], free, number)[1]
@@ -178,7 +178,7 @@ def leaving(custom, stands):
 def _first_with(lots, number):
     """The place of the first of the lots that has the stand of this number, or None."""
     for place, lot in enumerate(lots):
-        if lot >> number & 1:
+        if (lot >> number) & 1:
             return place
     return None
 

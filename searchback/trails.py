@@ -21,7 +21,10 @@ def year_stages(frame, lot, told, kinds):
 
 def year_behind(frame, lot, told, kinds):
     """The lot that can stand behind a year."""
-    return frame.ended(year_stages(frame, lot, told, kinds)[-1])
+    key = (lot, told, kinds)
+    if key not in frame.known_years:
+        frame.known_years[key] = frame.ended(year_stages(frame, lot, told, kinds)[-1])
+    return frame.known_years[key]
 
 
 def year_back(frame, lot, told, kinds, goal):

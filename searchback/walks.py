@@ -1,9 +1,9 @@
 """Walks: histories led through a custom, deed by deed and year by year."""
 
+from searchback.checks import check_kinds, check_questions, check_stand
 from searchback.customs import deed_step, end_step
-from searchback.errors import BadQuestion, BadStand, BadYears, OtherKinds
+from searchback.errors import BadYears
 from searchback.labels import is_whole
-from searchback.questions import question_fault
 from searchback.stand import Stand
 
 
@@ -33,14 +33,14 @@ def stand_at(custom, history, years=None):
 def answer_of(custom, history, question, years=None):
     """The answer behind the first so many years; behind all of them if years is None."""
     check_kinds(custom, history)
-    _check_question(custom, question)
+    check_questions(custom, (question,))
     return question.read(custom, _code_at(custom, history, years))
 
 
 def answers_through(custom, history, question):
     """The answers at the start and at each year's end."""
     check_kinds(custom, history)
-    _check_question(custom, question)
+    check_questions(custom, (question,))
     return tuple([question.read(custom, code) for code in end_codes(custom, history)])
 
 
@@ -54,19 +54,11 @@ def steps_of(custom, history):
 def led_on(custom, stand, history):
     """The last stand if the years of the history follow on this stand."""
     check_kinds(custom, history)
-    word = custom.stand_fault(stand)
-    if word is not None:
-        raise BadStand(word)
+    check_stand(custom, stand)
     code = stand.code
     for year in history.years:
         code = code_behind(custom, code, year)
     return Stand(*code)
-
-
-def check_kinds(custom, history):
-    """Raise OtherKinds if the custom and the history have unequal kinds."""
-    if custom.kinds != history.kinds:
-        raise OtherKinds()
 
 
 def code_steps(custom, history):
@@ -104,9 +96,3 @@ def _code_at(custom, history, years):
     for year in history.years[:many]:
         code = code_behind(custom, code, year)
     return code
-
-
-def _check_question(custom, question):
-    word = question_fault(custom, question)
-    if word is not None:
-        raise BadQuestion(word)

@@ -1,0 +1,155 @@
+"""Books of some kinds of deeds in some years, and which of them make an answer sure."""
+
+from searchback.abstracts import Abstract, abstract_of
+from searchback.checks import check_kinds, check_questions
+from searchback.entries import Noted
+from searchback.errors import BadBook, BadShelf
+from searchback.fillings import lot_answers
+from searchback.frame import Frame
+from searchback.labels import is_count, is_label, is_sequence
+from searchback.layers import check_placings, lot_ahead, lots_through
+
+MOST_BOOKS = 8
+
+
+class Book:
+    """A book of the deeds of some kinds in some years of a history."""
+
+    def __init__(self, years, names):
+        if not is_sequence(years) or not all([is_count(year) for year in years]):
+            raise BadBook("years")
+        if len(set(years)) < len(years):
+            raise BadBook("years")
+        if not is_sequence(names) or not all([is_label(name) for name in names]):
+            raise BadBook("names")
+        if len(set(names)) < len(names):
+            raise BadBook("names")
+        self.years = tuple(sorted(years))
+        self.names = tuple(names)
+
+    def __eq__(self, other):
+        return isinstance(other, Book) and self.years == other.years and self.names == other.names
+
+
+def year_books(history):
+    """For each year in order a book of this year and all kinds."""
+    return tuple([Book((year,), history.kinds.names) for year in range(len(history))])
+
+
+def kind_books(history):
+    """For each kind in order a book of all years and this kind."""
+    return tuple([Book(tuple(range(len(history))), (name,)) for name in history.kinds.names])
+
+
+def noted_of(history, books, *, whole=False):
+    """The abstract of all that the books note of the history."""
+    _check_shelf(history, books)
+    entries = [_noted_year(history, books, year) for year in range(len(history))]
+    return Abstract(history.kinds, entries, whole=whole)
+
+
+def least_books(custom, history, question, books, *, whole=False):
+    """All least lots of books with which alone the answer is sure."""
+    trial = _trial_of(custom, history, question, books, whole)
+    found = []
+    for lot in _lots_of(len(books)):
+        if not any([_is_part(one, lot) for one in found]) and trial.is_enough(lot):
+            found.append(lot)
+    return tuple(found)
+
+
+def needed_books(custom, history, question, books, *, whole=False):
+    """The books without each of which all others are not enough."""
+    trial = _trial_of(custom, history, question, books, whole)
+    every = tuple(range(len(books)))
+    return tuple([
+        book for book in every
+        if not trial.is_enough(tuple([other for other in every if other != book]))
+    ])
+
+
+def enough_years(custom, history, question):
+    """The least number of last years that make the answer sure if they are known, or None."""
+    check_kinds(custom, history)
+    check_questions(custom, (question,))
+    abstract = abstract_of(history)
+    check_placings(custom, len(abstract.persons))
+    frame = Frame(custom, abstract.persons)
+    ahead = lot_ahead(frame, False)
+    if not _is_sure(frame, ahead, abstract.years, question):
+        return None
+    # With more years known, the answer stays sure.
+    least, most = 0, len(abstract)
+    while least < most:
+        middle = (least + most) // 2
+        if _is_sure(frame, ahead, abstract.last(middle).years, question):
+            most = middle
+        else:
+            least = middle + 1
+    return least
+
+
+class ShelfTrial:
+    """Tries lots of the books of one shelf; all of them in the frame of the whole shelf's persons.
+
+    A person whom a lot does not name is there as good as an unnamed one: if this person can be
+    the answer, so can each other whom the lot does not name, and the answer is not sure.
+    """
+
+    def __init__(self, custom, history, question, books, abstract):
+        self.history = history
+        self.question = question
+        self.books = tuple(books)
+        self.whole = abstract.whole
+        self.frame = Frame(custom, abstract.persons)
+        self.ahead = lot_ahead(self.frame, self.whole)
+
+    def is_enough(self, lot):
+        """Whether the answer is sure with the books of the lot alone."""
+        books = [self.books[index] for index in lot]
+        entries = noted_of(self.history, books, whole=self.whole).years
+        return _is_sure(self.frame, self.ahead, entries, self.question)
+
+
+def _trial_of(custom, history, question, books, whole):
+    """The trial of a shelf; raises the errors of all its parts."""
+    check_kinds(custom, history)
+    check_questions(custom, (question,))
+    abstract = noted_of(history, books, whole=whole)
+    check_placings(custom, len(abstract.persons))
+    return ShelfTrial(custom, history, question, books, abstract)
+
+
+def _is_sure(frame, ahead, entries, question):
+    return lot_answers(frame, lots_through(frame, ahead, entries)[-1], question).is_sure
+
+
+def _check_shelf(history, books):
+    if not is_sequence(books) or len(books) > MOST_BOOKS:
+        raise BadShelf(0, "books")
+    for index, book in enumerate(books):
+        if not isinstance(book, Book):
+            raise BadShelf(index, "book")
+        if book.years and book.years[-1] >= len(history):
+            raise BadShelf(index, "years")
+        if not all([name in history.kinds for name in book.names]):
+            raise BadShelf(index, "names")
+
+
+def _noted_year(history, books, year):
+    """The entry of what the books note of one year."""
+    noted = {name: True for book in books if year in book.years for name in book.names}
+    names = [name for name in history.kinds.names if name in noted]
+    return Noted(names, [deed for deed in history.years[year] if deed[0] in noted])
+
+
+def _lots_of(many):
+    """All lots of so many books: fewer books first, then ascending."""
+    lots = [()]
+    for book in range(many):
+        lots = [*lots, *[(*lot, book) for lot in lots]]
+    return [lot for size in range(many + 1) for lot in sorted([one for one in lots if len(one) == size])]
+
+
+def _is_part(one, lot):
+    return all([book in lot for book in one])
