@@ -1,6 +1,7 @@
 """What several tests use: refusals with all their words, and a plain second way to walk."""
 
 import copy
+import itertools
 import random
 import unittest
 
@@ -10,6 +11,7 @@ from searchback.clauses import (
 from searchback.customs import Custom
 from searchback.histories import History
 from searchback.kinds import Kinds
+from searchback.questions import Filled, Reached, Room, Together, Who
 from searchback.stand import Stand
 
 
@@ -282,3 +284,249 @@ def every_stand(custom, names):
         shown = [(number, running) for number in range(clock[1] + 1) for running in (False, True)]
         faces = [(*face, one) for face in faces for one in shown]
     return [Stand(room, row, face) for room in custom.rooms for row in rows for face in faces]
+
+
+# Plain stands, and a plain search through all that come, by the second way to walk.
+def told_plain(stand):
+    names = {}
+    seats = []
+    for person in stand.seats:
+        if person is not None and person not in names:
+            names[person] = "abcdef"[len(names)]
+        seats.append(None if person is None else names[person])
+    return Stand(stand.room, seats, stand.clocks)
+
+
+def told_persons(*stands):
+    found = []
+    for stand in stands:
+        found.extend(person for person in stand.seats if person is not None and person not in found)
+    return tuple(found)
+
+
+def told_end(custom, stand):
+    return told_after(custom, told_ticked(custom, stand), None)
+
+
+def told_years(custom, stand, deeds):
+    """The stand behind these deeds and the year's end."""
+    for deed in deeds:
+        stand = told_after(custom, stand, deed)
+    return told_end(custom, stand)
+
+
+def told_closure(custom, codes, kinds, plain=told_plain, names=("a", "b", "c", "x", "y")):
+    """The codes of all that deeds of these kinds lead to; two of the names are always strangers."""
+    found = set(codes)
+    waiting = list(found)
+    deeds = [deed for deed in all_deeds(custom.kinds, names) if deed[0] in kinds]
+    while waiting:
+        stand = Stand(*waiting.pop())
+        for deed in deeds:
+            code = plain(told_after(custom, stand, deed)).code
+            if code not in found:
+                found.add(code)
+                waiting.append(code)
+    return found
+
+
+def told_coming(custom, most=1000):
+    """For each number of years the codes of the plain stands at its end and at its moments."""
+    ends, moments, rows = set(), set(), []
+    new = {custom.start.code}
+    while new and len(rows) <= most:
+        reached = told_closure(custom, new, custom.kinds.names)
+        ends |= new
+        rows.append((new, reached - moments))
+        moments |= reached
+        new = {told_plain(told_end(custom, Stand(*code))).code for code in rows[-1][1]} - ends
+    return rows, ends, moments
+
+
+def small_customs(many, most=400, cap=2, clauses=8):
+    """Drawn customs of at most so many stands, each with its number."""
+    for seed in range(many):
+        custom = random_custom(seed, most=clauses, cap=cap)
+        if custom.most_stands <= most:
+            yield seed, custom
+
+
+def clocked_custom(rooms, seats, *clocks, kinds=(("x", 1),), clauses=()):
+    """A custom of this shape: the numbers of its rooms and seats, and the caps of its clocks."""
+    rows = [(name, cap, True) for name, cap in zip(("k", "l"), clocks)]
+    return Custom(Kinds(kinds), ("r", "s", "t")[:rooms], ("p", "q", "o")[:seats], rows, clauses)
+
+
+# Pairs of stands by the second way to walk: they are pairs of codes, plain together.
+def told_joint(one, other):
+    joint = told_plain(Stand("r", (*one.seats,)))
+    names = dict(zip(told_persons(one), told_persons(joint)))
+    for person in told_persons(other):
+        names.setdefault(person, "abcdef"[len(names)])
+    seats = [tuple(None if person is None else names[person] for person in stand.seats) for stand in (one, other)]
+    return (Stand(one.room, seats[0], one.clocks).code, Stand(other.room, seats[1], other.clocks).code)
+
+
+def told_pair_deeds(custom, pair, without=()):
+    """All pairs behind a deed that is let, one after another with the deeds."""
+    persons = told_persons(*[Stand(*code) for code in pair])
+    names = (*persons, *[label for label in "abcdefgh" if label not in persons][:2])
+    for deed in all_deeds(custom.kinds, names):
+        if deed[0] not in without:
+            yield deed, told_joint(*[told_after(custom, Stand(*code), deed) for code in pair])
+
+
+def told_pair_end(custom, pair):
+    return told_joint(*[told_end(custom, Stand(*code)) for code in pair])
+
+
+def told_unlike(custom, pair, questions):
+    one, other = [Stand(*code) for code in pair]
+    return any(told_answer(custom, one, asked) != told_answer(custom, other, asked) for asked in questions)
+
+
+def told_answer(custom, stand, question):
+    name = type(question).__name__
+    seats = dict(zip(custom.seats, stand.seats))
+    if name == "Who":
+        return seats[question.seat]
+    if name == "Room":
+        return stand.room
+    if name == "Filled":
+        return seats[question.seat] is not None
+    if name == "Together":
+        return seats[question.seat] == seats[question.other]
+    return told_number(custom, stand, question.clock) >= question.number
+
+
+def told_beginnings(custom):
+    """The plain pairs of ends of histories, as pairs of codes."""
+    _, ends, _ = told_coming(custom)
+    found = set()
+    for one in ends:
+        for other in ends:
+            persons = told_persons(Stand(*other))
+            for names in itertools.permutations("abcdef", len(persons)):
+                renamed = Stand(*other).renamed(dict(zip(persons, names)))
+                found.add(told_joint(Stand(*one), renamed))
+    return found
+
+
+def told_pair_graph(custom, pairs, without=()):
+    """For each pair to which some of these lead, the set of those behind a deed, and the one behind the end."""
+    graph = {}
+    waiting = list(pairs)
+    while waiting:
+        pair = waiting.pop()
+        if pair not in graph:
+            behind = {to for _, to in told_pair_deeds(custom, pair, without)}
+            graph[pair] = (behind, told_pair_end(custom, pair))
+            waiting.extend(behind)
+            waiting.append(graph[pair][1])
+    return graph
+
+
+def told_reaching(graph, goals):
+    """All pairs from which deeds and one year's end lead into the goals."""
+    found = {pair for pair, (_, end) in graph.items() if end in goals}
+    size = -1
+    while size < len(found):
+        size = len(found)
+        found |= {pair for pair, (behind, _) in graph.items() if behind & found}
+    return found
+
+
+def told_heights(custom, graph, questions):
+    """The height of each pair of the graph; None where there is no bound."""
+    rows = [told_reaching(graph, {pair for pair in graph if told_unlike(custom, pair, questions)})]
+    while rows[-1] and rows[-1] not in rows[:-1]:
+        rows.append(told_reaching(graph, rows[-1]))
+    endless = set()
+    if rows[-1]:
+        for row in rows[rows.index(rows[-1]):]:
+            endless |= row
+    heights = {}
+    for pair in graph:
+        heights[pair] = max([0, *[height + 1 for height, row in enumerate(rows) if pair in row]])
+        if pair in endless:
+            heights[pair] = None
+    return heights
+
+
+def told_years_of(custom, heights, pair, questions):
+    if heights[pair] is None:
+        return None
+    if heights[pair] == 0:
+        return 1 if told_unlike(custom, pair, questions) else 0
+    return heights[pair] + 1
+
+
+def drawn_questions(seed, custom, most=1):
+    """Some different questions of the custom."""
+    rnd = random.Random(seed)
+    asked = [Room(), *[Who(seat) for seat in custom.seats], *[Filled(seat) for seat in custom.seats]]
+    asked += [Together(one, other) for one, other in itertools.permutations(custom.seats, 2)]
+    asked += [Reached(clock[0], rnd.randint(1, clock[1])) for clock in custom.clocks]
+    return rnd.sample(asked, rnd.randint(1, min(most, len(asked))))
+
+
+def lively_custom(seed, seats=2, cap=3):
+    """A drawn custom in which persons come to sit, and clocks go up and act at their caps."""
+    rnd = random.Random(seed)
+    kinds = Kinds([(name, rnd.choice((0, 1, 1, 2))) for name in ("x", "y", "z")[:rnd.randint(1, 3)]])
+    rooms = ("r", "s")[:rnd.choice((1, 1, 2))]
+    names = ("p", "q", "o")[:rnd.randint(1, seats)]
+    clocks = [("k", rnd.randint(1, cap), rnd.random() < 0.9)][:rnd.choice((0, 1, 1, 1))]
+    clauses = []
+    for kind, arity in kinds.rows:
+        for _ in range(rnd.choice((1, 1, 2))):
+            clauses.append(lively_clause(rnd, kind, arity, rooms, names, clocks))
+    for clock in clocks:
+        clauses.append(Clause("year", [AtLeast("k", clock[1])], [
+            rnd.choice((Put(rnd.choice(names), "nobody"), ToRoom(rnd.choice(rooms)))), Zero("k")][:rnd.choice((1, 2))]))
+    if rnd.random() < 0.5:
+        clauses.append(lively_clause(rnd, "year", 0, rooms, names, clocks))
+    return Custom(kinds, rooms, names, clocks, clauses)
+
+
+def lively_clause(rnd, kind, arity, rooms, names, clocks):
+    conditions = []
+    if rnd.random() < 0.5:
+        conditions.append(random_condition(rnd, rooms, names, clocks, arity))
+    whats = [*("first", "second")[:arity]] * 3 + ["nobody", *names]
+    changes = [Put(seat, rnd.choice([what for what in whats if what != seat])) for seat in names if rnd.random() < 0.6]
+    if rnd.random() < 0.3:
+        changes.append(ToRoom(rnd.choice(rooms)))
+    for clock in clocks:
+        if rnd.random() < 0.5:
+            changes.append(Zero(clock[0]))
+        if rnd.random() < 0.3:
+            changes.append(rnd.choice((Run, Run, Halt))(clock[0]))
+    return Clause(kind, conditions, changes)
+
+
+def fading_custom(seed, seats=2, cap=4):
+    """A drawn custom in which idle years empty the seats, so that the past is forgotten."""
+    rnd = random.Random(seed)
+    kinds = Kinds([(name, rnd.choice((0, 1, 1, 2))) for name in ("x", "y")[:rnd.randint(1, 2)]])
+    rooms = ("r", "s")[:rnd.choice((1, 1, 2))]
+    names = ("p", "q", "o")[:rnd.randint(1, seats)]
+    clocks = [("k", rnd.randint(1, cap), True)]
+    clauses = []
+    for kind, arity in kinds.rows:
+        conditions = [random_condition(rnd, rooms, names, clocks, arity)] if rnd.random() < 0.3 else []
+        whats = [*("first", "second")[:arity]] * 3 + ["nobody", *names]
+        changes = [Put(seat, rnd.choice([what for what in whats if what != seat])) for seat in names]
+        changes.append(ToRoom(rnd.choice(rooms)))
+        clauses.append(Clause(kind, conditions, [*changes, Zero("k")][:rnd.choice((2, 5, 5, 5))]))
+    emptied = [Put(seat, "nobody") for seat in names]
+    clauses.append(Clause("year", [AtLeast("k", clocks[0][1])], [*emptied, ToRoom(rooms[-1])]))
+    if rnd.random() < 0.4:
+        clauses.append(lively_clause(rnd, "year", 0, rooms, names, []))
+    return Custom(kinds, rooms, names, clocks, clauses)
+
+
+def searched_customs(many):
+    """Drawn customs of many numbers, endless ones too, each with a number for more choices."""
+    for seed in range(many):
+        yield seed, (fading_custom, fading_custom, lively_custom)[seed % 3](seed)
