@@ -5,10 +5,12 @@ import itertools
 import random
 import unittest
 
+from searchback.abstracts import Abstract
 from searchback.clauses import (
     Apart, AtLeast, Below, Clause, Halt, InRoom, Is, IsNot, NotInRoom, Put, Run, SamePerson, ToRoom, Zero,
 )
 from searchback.customs import Custom
+from searchback.entries import Holding, Known, Noted, Unknown, Without
 from searchback.histories import History
 from searchback.kinds import Kinds
 from searchback.questions import Filled, Reached, Room, Together, Who
@@ -530,3 +532,75 @@ def searched_customs(many):
     """Drawn customs of many numbers, endless ones too, each with a number for more choices."""
     for seed in range(many):
         yield seed, (fading_custom, fading_custom, lively_custom)[seed % 3](seed)
+
+
+# Layers by the second way to walk.
+def told_placed(stand, named):
+    """The stand with all but the named ones called by the first labels left."""
+    labels = [label for label in "abcdefghijklmnop" if label not in named]
+    names = {}
+    for person in stand.seats:
+        if person is not None and person not in named:
+            names.setdefault(person, labels[len(names)])
+    return Stand(stand.room, [names.get(person, person) for person in stand.seats], stand.clocks)
+
+
+def told_ahead(custom, named, whole):
+    """The codes of the placed stands that can stand ahead of an abstract."""
+    if whole:
+        return {custom.start.code}
+    found = set()
+    everyone = (*named, *[label for label in "uvwxyz" if label not in named][:3])
+    for code in told_coming(custom)[1]:
+        persons = told_persons(Stand(*code))
+        for names in itertools.permutations(everyone, len(persons)):
+            found.add(told_placed(Stand(*code).renamed(dict(zip(persons, names))), named).code)
+    return found
+
+
+def told_year(custom, named, codes, entry):
+    """The codes of the placed stands behind a year that the entry lets."""
+    free = entry.free(custom.kinds)
+    # Three seats hold at most three who are not named; two more are strangers.
+    everyone = (*named, *[label for label in "abcdefghijklmnop" if label not in named][:len(custom.seats) + 2])
+    deeds = [deed for deed in all_deeds(custom.kinds, everyone) if deed[0] in free]
+    seen = {(code, 0) for code in codes}
+    waiting = list(seen)
+    while waiting:
+        code, place = waiting.pop()
+        stand = Stand(*code)
+        steps = [(told_after(custom, stand, deed), place) for deed in deeds]
+        if place < len(entry.told):
+            steps.append((told_after(custom, stand, entry.told[place]), place + 1))
+        for behind, at in steps:
+            state = (told_placed(behind, named).code, at)
+            if state not in seen:
+                seen.add(state)
+                waiting.append(state)
+    ends = [told_end(custom, Stand(*code)) for code, place in seen if place == len(entry.told)]
+    return {told_placed(stand, named).code for stand in ends}
+
+
+def told_layers(custom, abstract):
+    layers = [told_ahead(custom, abstract.persons, abstract.whole)]
+    for entry in abstract.years:
+        layers.append(told_year(custom, abstract.persons, layers[-1], entry))
+    return layers
+
+
+def random_entry(rnd, kinds, names=("ann", "a")):
+    """A drawn entry of any class that fits the kinds and names some of these persons."""
+    deeds = []
+    for _ in range(rnd.choice((0, 1, 1, 2))):
+        name, arity = rnd.choice(kinds.rows)
+        deeds.append((name, *[rnd.choice(names) for _ in range(arity)]))
+    some = rnd.sample(kinds.names, rnd.randint(0, len(kinds)))
+    return rnd.choice((
+        Known(deeds), Known(deeds), Without(some), Unknown(), Holding(deeds),
+        Noted(some, [deed for deed in deeds if deed[0] in some])))
+
+
+def random_abstract(seed, kinds, years=3, names=("ann", "a")):
+    rnd = random.Random(seed)
+    entries = [random_entry(rnd, kinds, names) for _ in range(rnd.randint(0, years))]
+    return Abstract(kinds, entries, whole=rnd.random() < 0.4)

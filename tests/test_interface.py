@@ -22,6 +22,36 @@ FUNCTIONS = {
                "counted_years(custom, history, clock)"],
     "leaner": ["void_deeds(custom, history)", "without_deeds(history, spots)", "spare_deeds(custom, history)",
                "lean_history(custom, history)"],
+    "patterns": ["plain_names(stand)", "plain_stand(stand)", "all_stands(custom)", "stand_place(custom, stand)",
+                 "stand_at_place(custom, place)", "deeds_over(kinds, persons)"],
+    "stands": ["coming_stands(custom)", "stands_after(custom, years)", "leaving(custom, stands)"],
+    "likeness": ["likenesses(first, second)", "likeness_count(first, second, *, linked=None)",
+                 "likeness_index(likeness)", "likeness_at(first, second, index)", "likeness_of(one, other)",
+                 "joined_stands(one, other, likeness)", "together(custom, one, other, likeness)"],
+    "pairs": ["most_pairs(one, other)", "led_pair(custom, pair, deed)", "ended_pair(custom, pair)",
+              "is_unlike(custom, pair, question, *more)", "beginning_pairs(custom)"],
+    "heights": ["heights_fault(custom, heights, question, *more, without=())"],
+    "pasts": ["pasts_fault(custom, pasts, question, *more, without=())",
+              "rings_fault(custom, rings, question, *more, without=())"],
+    "searching": ["search_years(custom, question, *more, without=())",
+                  "years_left(custom, one, other, question, *more, without=())",
+                  "falling_counts(custom, question, *more, without=())",
+                  "searching(custom, question, *more, without=())",
+                  "pasts_for(custom, years, question, *more, without=())",
+                  "found_fault(custom, found, question, *more, without=())"],
+    "entries": ["entry_within(kinds, one, other)"],
+    "abstracts": ["abstract_of(history, years=None)"],
+    "layers": ["placings(custom, named)", "layers_of(custom, abstract)"],
+    "fillings": ["answers_of(custom, abstract, question)", "filling_for(custom, abstract, question, answer)",
+                 "sure_answer(custom, abstract, question)"],
+    "surejudge": ["sure_fault(custom, abstract, question, result)"],
+    "books": ["year_books(history)", "kind_books(history)", "noted_of(history, books, *, whole=False)",
+              "least_books(custom, history, question, books, *, whole=False)",
+              "needed_books(custom, history, question, books, *, whole=False)",
+              "enough_years(custom, history, question)"],
+    "steady": ["steady_years(custom, entry, question)"],
+    "rounds": ["marked_stand(stand, person)", "marked_stands(custom, person)", "others_deeds(custom, stand, person)",
+               "own_deeds(custom, stand, person)", "ends_of_rounds(custom, stand, person, rounds)"],
 }
 PIECES = {
     "InRoom": "(room)", "NotInRoom": "(room)", "Is": "(seat, what)", "IsNot": "(seat, what)", "SamePerson": "()",
@@ -29,6 +59,7 @@ PIECES = {
 }
 CHANGES = {"ToRoom": "(room)", "Put": "(seat, what)", "Zero": "(clock)", "Run": "(clock)", "Halt": "(clock)"}
 QUESTIONS = {"Who": "(seat)", "Room": "()", "Filled": "(seat)", "Together": "(seat, other)", "Reached": "(clock, number)"}
+ENTRIES = {"Known": "(deeds)", "Without": "(names)", "Unknown": "()", "Noted": "(names, deeds)", "Holding": "(deeds)"}
 CLASSES = {
     "kinds": {"Kinds": ("(rows)", ["arity_of(self, name)", "fault(self, deed)", "__eq__", "__len__", "__iter__",
                                    "__contains__"], [])},
@@ -56,8 +87,36 @@ CLASSES = {
     "walks": {"Step": ("(year, place, deed, clause, stand)", ["__eq__"], [])},
     "chains": {"Link": ("(year, place, clause, seat, what)", ["__eq__"], []),
                "Term": ("(person, begin, end)", ["__eq__"], [])},
+    "stands": {
+        "Coming": (None, ["is_end(self, stand)", "is_moment(self, stand)", "years_to(self, stand)",
+                          "years_ahead(self, stand)", "history_to(self, stand, *, exactly=None)", "way_to(self, stand)",
+                          "__len__", "__iter__"], []),
+        "Leaving": ("(stand, deed, behind)", ["__eq__"], [])},
+    "likeness": {"Likeness": ("(first, second, links)", ["partner(self, number)", "flipped(self)", "then(self, other)",
+                                                        "__len__", "__iter__", "__eq__"], ["is_full"])},
+    "pairs": {"Pair": ("(one, other)", ["swapped(self)", "renamed(self, names)", "plain(self)", "__eq__"],
+                       ["persons", "is_equal", "is_plain"])},
+    "heights": {"Heights": ("(rows)", ["of(self, pair)", "__len__", "__iter__"], ["most"])},
+    "pasts": {"Pasts": ("(one, other, years)", ["histories(self)", "__len__"], []),
+              "Rings": ("(one, other, ring, tail)", ["written(self, turns)", "common_years(self, turns)",
+                                                     "turns_for(self, years)", "__len__"], [])},
+    "searching": {"Found": ("(years, heights, pasts)", [], []), "Endless": ("(rings)", [], [])},
+    "entries": {"Entry": (None, ["lets(self, kinds, year)"], []),
+                **{name: (shape, ["free(self, kinds)", "__eq__"], []) for name, shape in ENTRIES.items()}},
+    "abstracts": {"Abstract": ("(kinds, years, *, whole=False)", [
+        "fills(self, history)", "then_year(self, entry)", "last(self, years)", "hidden(self, *years)",
+        "is_within(self, other)", "__len__", "__iter__", "__eq__"], ["persons"])},
+    "fillings": {"Answers": ("(possible, others)", [], ["is_sure"]), "Sure": ("(answer, layers)", [], []),
+                 "Unsure": ("(one, other)", [], [])},
+    "books": {"Book": ("(years, names)", ["__eq__"], [])},
+    "steady": {"Steady": ("(years, answer, layers)", [], []), "Unsteady": ("(layers)", [], [])},
 }
-BASES = {"Condition": PIECES, "Change": CHANGES, "Question": QUESTIONS}
+BASES = {
+    "Condition": ("clauses", PIECES), "Change": ("clauses", CHANGES), "Question": ("questions", QUESTIONS),
+    "Entry": ("entries", ENTRIES),
+}
+VALUES = {"histories": {"MOST_YEARS": 10 ** 6, "MOST_DEEDS": 10 ** 6}, "abstracts": {"MOST_ENTRIES": 200, "MOST_NAMED": 8},
+          "layers": {"MOST_PLACINGS": 4000}, "books": {"MOST_BOOKS": 8}}
 
 
 def module_of(name):
@@ -79,7 +138,8 @@ class InterfaceTest(unittest.TestCase):
                 found = getattr(module_of(name), title)
                 self.assertEqual(found.__module__, "searchback." + name)
                 self.assertEqual(found.__name__, title)
-                self.assertEqual(str(inspect.signature(found)), shape, title)
+                if shape is not None:
+                    self.assertEqual(str(inspect.signature(found)), shape, title)
                 for row in methods:
                     method = vars(found)[row.partition("(")[0]]
                     self.assertIs(type(method), types.FunctionType)
@@ -89,19 +149,29 @@ class InterfaceTest(unittest.TestCase):
                     self.assertIs(type(vars(found)[row]), property)
 
     def test_bases(self):
-        for base, rows in BASES.items():
-            module = module_of("questions" if base == "Question" else "clauses")
-            for name in rows:
-                self.assertEqual(getattr(module, name).__bases__, (getattr(module, base),))
+        for base, (name, rows) in BASES.items():
+            module = module_of(name)
+            for title in rows:
+                self.assertEqual(getattr(module, title).__bases__, (getattr(module, base),))
 
-    def test_the_class_method(self):
+    def test_values(self):
+        for name, rows in VALUES.items():
+            for title, value in rows.items():
+                self.assertEqual(getattr(module_of(name), title), value)
+
+    def test_the_class_methods(self):
         history = module_of("histories").History
         self.assertIs(type(vars(history)["from_years"]), classmethod)
         self.assertEqual(str(inspect.signature(history.from_years)), "(kinds, *years)")
+        abstract = module_of("abstracts").Abstract
+        self.assertIs(type(vars(abstract)["from_entries"]), classmethod)
+        self.assertEqual(str(inspect.signature(abstract.from_entries)), "(kinds, *entries)")
 
     def test_generators(self):
         self.assertTrue(inspect.isgeneratorfunction(module_of("histories").History.beginnings))
-        self.assertTrue(inspect.isgeneratorfunction(module_of("walks").steps_of))
+        for name, title in [("walks", "steps_of"), ("patterns", "all_stands"), ("patterns", "deeds_over"),
+                            ("likeness", "likenesses"), ("pairs", "beginning_pairs"), ("layers", "layers_of")]:
+            self.assertTrue(inspect.isgeneratorfunction(getattr(module_of(name), title)))
 
 
 if __name__ == "__main__":
