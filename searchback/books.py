@@ -51,21 +51,17 @@ def noted_of(history, books, *, whole=False):
 def least_books(custom, history, question, books, *, whole=False):
     """All least lots of books with which alone the answer is sure."""
     trial = _trial_of(custom, history, question, books, whole)
+    needed = trial.needed()
     found = []
     for lot in _lots_of(len(books)):
-        if not any([_is_part(one, lot) for one in found]) and trial.is_enough(lot):
+        if _is_part(needed, lot) and not any([_is_part(one, lot) for one in found]) and trial.is_enough(lot):
             found.append(lot)
     return tuple(found)
 
 
 def needed_books(custom, history, question, books, *, whole=False):
     """The books without each of which all others are not enough."""
-    trial = _trial_of(custom, history, question, books, whole)
-    every = tuple(range(len(books)))
-    return tuple([
-        book for book in every
-        if not trial.is_enough(tuple([other for other in every if other != book]))
-    ])
+    return _trial_of(custom, history, question, books, whole).needed()
 
 
 def enough_years(custom, history, question):
@@ -103,12 +99,23 @@ class ShelfTrial:
         self.whole = abstract.whole
         self.frame = Frame(custom, abstract.persons)
         self.ahead = lot_ahead(self.frame, self.whole)
+        self.known = {}
 
     def is_enough(self, lot):
         """Whether the answer is sure with the books of the lot alone."""
-        books = [self.books[index] for index in lot]
-        entries = noted_of(self.history, books, whole=self.whole).years
-        return _is_sure(self.frame, self.ahead, entries, self.question)
+        if lot not in self.known:
+            books = [self.books[index] for index in lot]
+            entries = noted_of(self.history, books, whole=self.whole).years
+            self.known[lot] = _is_sure(self.frame, self.ahead, entries, self.question)
+        return self.known[lot]
+
+    def needed(self):
+        """The books without each of which all others are not enough."""
+        every = tuple(range(len(self.books)))
+        return tuple([
+            book for book in every
+            if not self.is_enough(tuple([other for other in every if other != book]))
+        ])
 
 
 def _trial_of(custom, history, question, books, whole):

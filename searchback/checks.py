@@ -30,6 +30,12 @@ def check_without(custom, without):
             raise NoKind(name)
 
 
+def check_asking(custom, questions, without):
+    """Raise the errors of questions that are asked without deeds of some kinds."""
+    check_questions(custom, questions)
+    check_without(custom, without)
+
+
 def check_stand(custom, stand):
     """Raise BadStand unless the thing is a stand of the custom's shape."""
     word = custom.stand_fault(stand)

@@ -15,7 +15,8 @@ from searchback.stand import Stand
 
 def numbers_in(lot):
     """The numbers of the stands in a lot, ascending."""
-    return [place for place, digit in enumerate(f"{lot:b}"[::-1]) if digit == "1"]
+    digits = f"{lot:b}"
+    return [place for place, digit in enumerate(digits[::-1]) if digit == "1"]
 
 
 def lot_of(numbers):
@@ -39,7 +40,10 @@ class Frame:
         self.row_lots = {}
         self.kind_ways = {}
         self.ways = {}
+        self.known_reached = {}
         self.known_years = {}
+        self.known_deeds = {}
+        self.stands = {}
         self.ends = []
         self.start = self.number_of(custom.start.code)
 
@@ -51,9 +55,11 @@ class Frame:
 
     def stand_of(self, number):
         """The placed stand with this number."""
-        place, clocks = divmod(number, len(self.faces.readings))
-        room, row = divmod(place, len(self.seatings))
-        return Stand(self.custom.rooms[room], self.seatings[row], self.faces.readings[clocks])
+        if number not in self.stands:
+            place, clocks = divmod(number, len(self.faces.readings))
+            room, row = divmod(place, len(self.seatings))
+            self.stands[number] = Stand(self.custom.rooms[room], self.seatings[row], self.faces.readings[clocks])
+        return self.stands[number]
 
     def stands_in(self, lot):
         """The stands of a lot, in order."""
@@ -71,20 +77,26 @@ class Frame:
 
     def done(self, number, deed):
         """The number of the stand behind a deed of named persons alone."""
-        return self.number_of(deed_step(self.custom, self.stand_of(number).code, deed)[1])
+        key = (number, deed)
+        if key not in self.known_deeds:
+            self.known_deeds[key] = self.number_of(deed_step(self.custom, self.stand_of(number).code, deed)[1])
+        return self.known_deeds[key]
 
     def reached(self, lot, kinds):
-        """The lot of all stands to which any deeds of these kinds, or none, lead from the lot."""
-        ways = self.ways_of(kinds)
-        seen = lot
-        new = lot
-        while new > 0:
-            found = 0
-            for number in numbers_in(new):
-                found = found | ways[number]
-            new = found & ~seen
-            seen = seen | new
-        return seen
+        """The lot of all stands to which any deeds of these kinds, or none, lead from the lot.
+
+        What one stand of the lot leads to needs not be gone on with again.
+        """
+        found = 0
+        left = lot
+        while left > 0:
+            number = (left & -left).bit_length() - 1
+            key = (number, kinds)
+            if key not in self.known_reached:
+                self.known_reached[key] = self._reached_from(number, kinds)
+            found = found | self.known_reached[key]
+            left = left & ~found
+        return found
 
     def path(self, lot, kinds, goal):
         """The numbers on a shortest way by deeds of these kinds from a stand of the lot to the goal."""
@@ -125,6 +137,18 @@ class Frame:
                 if self.number_of(deed_step(self.custom, code, deed)[1]) == goal:
                     return deed
         return None
+
+    def _reached_from(self, number, kinds):
+        ways = self.ways_of(kinds)
+        seen = 1 << number
+        new = seen
+        while new > 0:
+            found = 0
+            for one in numbers_in(new):
+                found = found | ways[one]
+            new = found & ~seen
+            seen = seen | new
+        return seen
 
     def _ends(self):
         return [self.number_of(end_step(self.custom, self.stand_of(number).code)[1]) for number in range(self.many)]

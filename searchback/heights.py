@@ -1,6 +1,6 @@
 """Heights: how many year's ends are left behind which a pair of stands can be unlike."""
 
-from searchback.checks import check_questions, check_without
+from searchback.checks import check_asking
 from searchback.errors import BadHeights, NoPair
 from searchback.labels import is_count, is_sequence
 from searchback.pairgraph import PairGraph
@@ -48,8 +48,7 @@ class Heights:
 def heights_fault(custom, heights, question, *more, without=()):
     """None if the table shows how many years are enough, else the word for why not."""
     questions = (question, *more)
-    check_questions(custom, questions)
-    check_without(custom, without)
+    check_asking(custom, questions, without)
     check_pairs(custom)
     return table_fault(PairGraph(custom, without, questions), heights)
 

@@ -1,6 +1,6 @@
 """Histories that part: two pasts with common years, or with a ring of years."""
 
-from searchback.checks import check_questions, check_without
+from searchback.checks import check_asking
 from searchback.errors import BadHistory, BadPasts, BadRings, BadTurns, BadYears
 from searchback.histories import MOST_DEEDS, MOST_YEARS, History, history_of
 from searchback.labels import is_count, is_whole
@@ -81,8 +81,7 @@ class Rings:
 def pasts_fault(custom, pasts, question, *more, without=()):
     """None if the whole histories answer unlike, else the word for why not."""
     questions = (question, *more)
-    check_questions(custom, questions)
-    check_without(custom, without)
+    check_asking(custom, questions, without)
     if not isinstance(pasts, Pasts):
         return "pasts"
     if pasts.one.kinds != custom.kinds:
@@ -96,8 +95,7 @@ def pasts_fault(custom, pasts, question, *more, without=()):
 def rings_fault(custom, rings, question, *more, without=()):
     """None if the rings show that the questions are endless, else the word for why not."""
     questions = (question, *more)
-    check_questions(custom, questions)
-    check_without(custom, without)
+    check_asking(custom, questions, without)
     if not isinstance(rings, Rings):
         return "rings"
     if rings.one.kinds != custom.kinds:

@@ -1,6 +1,6 @@
 """How many of the last years must be known, and what shows it."""
 
-from searchback.checks import check_questions, check_stand, check_without
+from searchback.checks import check_asking, check_stand
 from searchback.climb import ENDLESS, Climb
 from searchback.errors import BadYears
 from searchback.heights import Heights, beginning_nodes, table_fault
@@ -38,8 +38,7 @@ def search_years(custom, question, *more, without=()):
 def years_left(custom, one, other, question, *more, without=()):
     """The years of two stands at a year's end, or None if there is no bound."""
     questions = (question, *more)
-    check_questions(custom, questions)
-    check_without(custom, without)
+    check_asking(custom, questions, without)
     check_stand(custom, one)
     check_stand(custom, other)
     check_pairs(custom)
@@ -78,8 +77,7 @@ def searching(custom, question, *more, without=()):
 def pasts_for(custom, years, question, *more, without=()):
     """Pasts with just so many common years behind which the answers are unlike, or None."""
     questions = (question, *more)
-    check_questions(custom, questions)
-    check_without(custom, without)
+    check_asking(custom, questions, without)
     if not is_whole(years, 0, MOST_COMMON):
         raise BadYears(years)
     climb = _climb_of(custom, questions, without)
@@ -89,8 +87,7 @@ def pasts_for(custom, years, question, *more, without=()):
 def found_fault(custom, found, question, *more, without=()):
     """None if what was found shows the number, else the word for why not."""
     questions = (question, *more)
-    check_questions(custom, questions)
-    check_without(custom, without)
+    check_asking(custom, questions, without)
     check_pairs(custom)
     if isinstance(found, Endless):
         word = rings_fault(custom, found.rings, *questions, without=without)
@@ -109,8 +106,7 @@ def found_fault(custom, found, question, *more, without=()):
 
 def _climb_of(custom, questions, without):
     """The heights of all pairs that come."""
-    check_questions(custom, questions)
-    check_without(custom, without)
+    check_asking(custom, questions, without)
     check_pairs(custom)
     graph = PairGraph(custom, without, questions)
     return Climb(graph, beginning_nodes(graph))

@@ -8,15 +8,17 @@ README = os.path.join(os.path.dirname(os.path.dirname(os.path.abspath(__file__))
 
 
 class ReadmeTest(unittest.TestCase):
-    def test_the_example_prints_what_it_says(self):
+    def test_the_examples_print_what_they_say(self):
         with open(README, encoding="utf-8") as file:
-            code = re.search(r"```python\n([\s\S]*?)```", file.read()).group(1)
-        told = re.findall(r"print\(.*\) +# (.*)", code)
-        printed = io.StringIO()
-        with contextlib.redirect_stdout(printed):
-            exec(code, {})
-        self.assertEqual(printed.getvalue().splitlines(), told)
-        self.assertEqual(len(told), 2)
+            examples = re.findall(r"```python\n([\s\S]*?)```", file.read())
+        self.assertEqual(len(examples), 3)
+        for code in examples:
+            told = re.findall(r"print\(.*\) +# (.*)", code)
+            printed = io.StringIO()
+            with contextlib.redirect_stdout(printed):
+                exec(code, {})
+            self.assertEqual(printed.getvalue().splitlines(), told)
+            self.assertGreaterEqual(len(told), 2)
 
 
 if __name__ == "__main__":
