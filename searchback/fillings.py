@@ -83,6 +83,15 @@ def lot_answers(frame, lot, question):
     return Answers(possible, len(found) > len(possible))
 
 
+def is_same_answer(one, other):
+    """Whether any thing is the same answer as this one; 1 and 0 are other answers than True and False."""
+    if one is None:
+        return other is None
+    if isinstance(one, bool):
+        return isinstance(other, bool) and one == other
+    return isinstance(other, str) and one == other
+
+
 def _frame_of(custom, abstract, question):
     """The frame of the abstract's persons; raises the errors of all three."""
     check_kinds(custom, abstract)
@@ -111,15 +120,9 @@ def _filling(frame, lots, abstract, question, answer):
 def _can_answer(frame, number, question, answer):
     """Whether the stand answers so, if its unnamed persons may have any other names."""
     found = question.read(frame.custom, frame.stand_of(number).code)
-    if isinstance(found, bool):
-        return isinstance(answer, bool) and answer == found
-    if found is None or answer is None:
-        return found is None and answer is None
-    if not is_label(answer):
-        return False
-    if isinstance(question, Who) and found not in frame.named:
-        return answer not in frame.named
-    return answer == found
+    if isinstance(question, Who) and found is not None and found not in frame.named:
+        return is_label(answer) and answer not in frame.named
+    return is_same_answer(found, answer)
 
 
 def _exchanged(history, one, other):

@@ -1,7 +1,7 @@
 """The judge of what is said to be sure or unsure."""
 
 from searchback.checks import check_kinds, check_questions
-from searchback.fillings import Unsure, lot_answers
+from searchback.fillings import Unsure, is_same_answer, lot_answers
 from searchback.frame import Frame, lot_of
 from searchback.histories import History
 from searchback.labels import is_sequence
@@ -62,13 +62,4 @@ def _is_ahead(frame, lot, whole):
 def _all_answer(frame, lot, question, answer):
     """Whether all stands of the lot give this answer, which is no unnamed person."""
     answers = lot_answers(frame, lot, question)
-    return not answers.others and all([_is_same(one, answer) for one in answers.possible])
-
-
-def _is_same(one, other):
-    """Whether two answers are the same; 1 and 0 are other answers than True and False."""
-    if one is None or other is None:
-        return one is None and other is None
-    if isinstance(one, bool):
-        return isinstance(other, bool) and one == other
-    return isinstance(other, str) and one == other
+    return not answers.others and all([is_same_answer(one, answer) for one in answers.possible])

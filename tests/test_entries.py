@@ -48,6 +48,9 @@ class EntryTest(Case):
             for row in (entry.names, entry.told, entry.free(KINDS)):
                 self.is_tuple_throughout(row)
 
+    def test_the_base(self):
+        self.assertEqual((Entry().told, Entry().names), ((), ()))
+
     def test_free_in_the_order_of_the_kinds(self):
         turned = Kinds([("z", 0), ("y", 1), ("x", 0)])
         self.assertEqual(Without(["y"]).free(turned), ("z", "x"))

@@ -2,7 +2,7 @@ import itertools
 import unittest
 
 from searchback.abstracts import Abstract, abstract_of
-from searchback.clauses import Clause, Is, Put
+from searchback.clauses import Apart, Clause, Is, Put
 from searchback.entries import Holding, Known, Noted, Unknown, Without
 from searchback.errors import BadQuestion, OtherKinds, TooMany
 from searchback.fillings import Answers, Sure, Unsure, answers_of, filling_for, sure_answer
@@ -109,6 +109,14 @@ class FillingTest(Case):
             self.assertTrue(abstract.fills(filling))
             self.assertEqual(answer_of(TAKING, filling, Who("p")), answer)
         self.assertIsNone(filling_for(TAKING, abstract, Who("p"), None))
+
+    def test_a_label_that_another_one_has(self):
+        custom = clocked_custom(1, 2, kinds=[("y", 2)], clauses=[
+            Clause("y", [Apart()], [Put("p", "first"), Put("q", "second")])])
+        for answer in ("a", "b", "c", "zed"):
+            for seat in ("p", "q"):
+                filling = filling_for(custom, Abstract(custom.kinds, []), Who(seat), answer)
+                self.assertEqual(answer_of(custom, filling, Who(seat)), answer)
 
     def test_what_is_no_answer(self):
         abstract = Abstract(TAKING.kinds, [])

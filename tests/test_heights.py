@@ -167,6 +167,8 @@ class FaultTest(Case):
             self.assertEqual(heights_fault(custom, Heights([(Pair(one, stand), 1)]), question), "stand")
             right = Stand("r", ["a"], [(0, True)])
             self.assertEqual(heights_fault(custom, Heights([(Pair(right, stand), 1)]), question), "stand")
+            turned = Pair(stand.renamed({"b": "a"}), Stand("r", ["b"], [(0, True)]))
+            self.assertEqual(heights_fault(custom, Heights([(turned, 1)]), question), "stand")
             self.assertEqual(heights_fault(custom, Heights([*rows, (Pair(one, stand), 1)]), question), "stand")
         self.assertEqual(heights_fault(custom, Heights([]), question), "beginning")
         # Such a pair cannot come, but it is listed: what it leads to counts.
@@ -176,6 +178,17 @@ class FaultTest(Case):
         self.assertEqual(heights_fault(custom, Heights([*rows, (other, 0)]), question), "end")
         halted = Pair(Stand("r", [None], [(0, False)]), Stand("r", ["a"], [(0, False)]))
         self.assertEqual(heights_fault(custom, Heights([*rows, (halted, 9)]), question), "end")
+
+    def test_an_end_that_is_not_listed(self):
+        custom = clocked_custom(1, 1, 2, clauses=[
+            Clause("x", [], [Put("p", "first"), Zero("k")]), Clause("year", [AtLeast("k", 2)], [Put("p", "nobody")])])
+        rows = list(searching(custom, Who("p"), without=["x"]).heights)
+        self.assertIsNone(heights_fault(custom, Heights(rows), Who("p"), without=["x"]))
+        other = Pair(Stand("r", [None], [(0, False)]), Stand("r", ["a"], [(1, True)]))
+        for height in (0, 1, 9):
+            self.assertEqual(heights_fault(custom, Heights([*rows, (other, height)]), Who("p"), without=["x"]), "end")
+        behind = Pair(Stand("r", [None], [(0, False)]), Stand("r", [None], [(2, True)]))
+        self.assertIsNone(heights_fault(custom, Heights([*rows, (other, 0), (behind, 0)]), Who("p"), without=["x"]))
 
     def test_a_deed_ahead_of_an_end(self):
         custom = clocked_custom(1, 1, clauses=[Clause("x", [Is("p", "nobody")], [Put("p", "first")])])

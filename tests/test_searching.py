@@ -235,6 +235,11 @@ class YearsLeftTest(Case):
 
 
 class FallingTest(Case):
+    def test_all_unequal_pairs_unlike(self):
+        custom = clocked_custom(1, 1, clauses=[Clause("x", [], [Put("p", "first")])])
+        self.assertEqual(falling_counts(custom, Who("p")), (3, 3))
+        self.assertEqual(falling_counts(custom, Room()), (0,))
+
     def test_against_a_plain_search(self):
         kinds = set()
         for seed, custom, questions, without, years in drawn(150):
