@@ -193,12 +193,13 @@ class Frame:
             seated = sitters(seats)
             unseated = [person for person in self.named if person not in seated]
             others = fresh_labels((*self.named, *seated), 2)
+            firsts = (*unseated, others[0]) if strangers[0] in behind else (others[0],)
+            seconds = (*unseated, *others) if strangers[1] in behind else (others[1],)
+            both = [(first, second) for first in firsts for second in seconds if first != second]
             names = {person: person for person in seated}
             lot = 0
-            for first in (*unseated, others[0]) if strangers[0] in behind else others[:1]:
-                second_ones = (*unseated, *others) if strangers[1] in behind else others[1:]
-                for second in [person for person in second_ones if person != first]:
-                    row = self._seating_of(called(behind, {**names, strangers[0]: first, strangers[1]: second}))
-                    lot = lot | (1 << self._number_at(row, 0))
+            for first, second in both:
+                row = self._seating_of(called(behind, {**names, strangers[0]: first, strangers[1]: second}))
+                lot = lot | (1 << self._number_at(row, 0))
             self.row_lots[key] = lot
         return self.row_lots[key]

@@ -25,18 +25,20 @@ class Coming:
     def __init__(self, custom):
         self.custom = custom
         self.frame = Frame(custom)
-        self.end_lots = []
-        self.moment_lots = []
+        end_lots = []
+        moment_lots = []
         ends = 0
         moments = 0
         new = lot_of([self.frame.start])
         while new > 0:
             reached = self.frame.reached(new, custom.kinds.names)
-            self.end_lots.append(new)
-            self.moment_lots.append(reached & ~moments)
+            end_lots.append(new)
+            moment_lots.append(reached & ~moments)
             ends = ends | new
             moments = moments | reached
-            new = self.frame.ended(self.moment_lots[-1]) & ~ends
+            new = self.frame.ended(moment_lots[-1]) & ~ends
+        self.end_lots = tuple(end_lots)
+        self.moment_lots = tuple(moment_lots)
         self.ends = self.frame.stands_in(ends)
         self.moments = self.frame.stands_in(moments)
 
