@@ -110,6 +110,15 @@ class FillingTest(Case):
             self.assertEqual(answer_of(TAKING, filling, Who("p")), answer)
         self.assertIsNone(filling_for(TAKING, abstract, Who("p"), None))
 
+    def test_a_named_person_who_has_left(self):
+        custom = clocked_custom(1, 1, kinds=[("take", 1), ("leave", 1)], clauses=[
+            Clause("take", [Is("p", "nobody")], [Put("p", "first")]), Clause("leave", [Is("p", "first")], [Put("p", "nobody")])])
+        abstract = Abstract(custom.kinds, [Unknown(), Known([("leave", "ann")])])
+        answers = answers_of(custom, abstract, Who("p"))
+        self.assertEqual((answers.possible, answers.others), ((None,), True))
+        self.assertIsNone(filling_for(custom, abstract, Who("p"), "ann"))
+        self.assertEqual(answer_of(custom, filling_for(custom, abstract, Who("p"), "anna"), Who("p")), "anna")
+
     def test_a_label_that_another_one_has(self):
         custom = clocked_custom(1, 2, kinds=[("y", 2)], clauses=[
             Clause("y", [Apart()], [Put("p", "first"), Put("q", "second")])])

@@ -1,13 +1,13 @@
 import unittest
 
 from searchback.bearing import narrowed
-from searchback.clauses import AtLeast, Clause, Is, Put, ToRoom, Zero
+from searchback.clauses import AtLeast, Clause, InRoom, Is, Put, ToRoom, Zero
 from searchback.customs import Custom
 from searchback.errors import BadQuestion, BadStand, BadYears, NoKind, TooMany
 from searchback.heights import Heights, heights_fault
 from searchback.histories import History
 from searchback.kinds import Kinds
-from searchback.pairs import Pair, beginning_pairs, ended_pair, is_unlike, led_pair
+from searchback.pairs import Pair, beginning_pairs, ended_pair, is_unlike, led_pair, most_pairs
 from searchback.pasts import Pasts, Rings, pasts_fault, rings_fault
 from searchback.patterns import deeds_over
 from searchback.questions import Filled, Reached, Room, Who
@@ -387,6 +387,86 @@ class SearchingTest(Case):
     def test_results_keep_their_arguments(self):
         found, endless = Found(1, "x", None), Endless(3)
         self.assertEqual((found.years, found.heights, found.pasts, endless.rings), (1, "x", None, 3))
+
+
+class WaysTest(Case):
+    """Common years, rings and tails that need deeds, several in one year."""
+
+    def check(self, custom, question, number, **named):
+        found = searching(custom, question, **named)
+        self.assertIsNone(found_fault(custom, found, question, **named))
+        self.assertEqual(search_years(custom, question, **named), number)
+        for years in (0, 1, 2, 3, 4, 9, 200):
+            pasts = pasts_for(custom, years, question, **named)
+            self.assertEqual(pasts is None, number is not None and number <= years)
+            if pasts is not None:
+                self.assertIsNone(pasts_fault(custom, pasts, question, **named))
+                self.assertEqual(len(pasts), years)
+        return found
+
+    def hiding(self, *fading):
+        """Who is set is shown only if the thing is opened and then shown in one year, and then for one year."""
+        return clocked_custom(3, 2, 4, kinds=[("set", 1), ("shut", 0), ("open", 0), ("show", 0)], clauses=[
+            Clause("set", [], [Put("q", "first"), Zero("k")]), Clause("open", [InRoom("r")], [ToRoom("s")]),
+            Clause("shut", [InRoom("s")], [ToRoom("r")]),
+            Clause("show", [InRoom("s")], [Put("p", "q"), Put("q", "nobody"), ToRoom("t")]), *fading,
+            Clause("year", [InRoom("t")], [ToRoom("r")]), Clause("year", [InRoom("s")], [Put("p", "nobody"), Put("q", "nobody"), ToRoom("r")]),
+            Clause("year", [], [Put("p", "nobody")])])
+
+    def test_two_deeds_in_the_last_common_year(self):
+        custom = self.hiding(Clause("year", [AtLeast("k", 4)], [Put("q", "nobody"), Put("p", "nobody"), ToRoom("r")]))
+        # Whoever is set last, behind the showing, begins the clock again.
+        found = self.check(custom, Who("p"), 4)
+        self.assertEqual([[deed[0] for deed in year] for year in found.pasts.years], [[], [], ["open", "show", "set"]])
+        self.check(custom, Filled("p"), 4)
+        self.check(custom, Who("p"), 1, without=["show"])
+
+    def test_years_that_end_alike_without_a_deed(self):
+        custom = clocked_custom(2, 2, kinds=[("set", 1), ("show", 0)], clauses=[
+            Clause("set", [], [Put("q", "first"), ToRoom("r")]), Clause("show", [InRoom("s")], [Put("p", "q")]),
+            Clause("year", [InRoom("r")], [Put("p", "nobody"), ToRoom("s")]),
+            Clause("year", [], [Put("q", "nobody"), ToRoom("r")])])
+        found = self.check(custom, Who("p"), 2)
+        self.assertEqual(found.pasts.years, ((("show",),),))
+        self.check(custom, Who("p"), 1, without=["show"])
+
+    def test_two_deeds_in_the_tail(self):
+        found = self.check(self.hiding(), Who("p"), None)
+        self.assertEqual(found.rings.tail[-1], (("open",), ("show",)))
+        self.assertEqual(found.rings.ring, ((),))
+        self.assertEqual(pasts_for(self.hiding(), 3, Who("p")).years, ((), (), (("open",), ("show",))))
+
+    def test_two_deeds_in_the_ring(self):
+        kinds = [("set", 1), ("open", 0), ("keep", 0)]
+        custom = clocked_custom(3, 1, kinds=kinds, clauses=[
+            Clause("set", [], [Put("p", "first")]), Clause("open", [InRoom("r")], [ToRoom("s")]),
+            Clause("keep", [InRoom("s")], [ToRoom("t")]), Clause("year", [InRoom("t")], [ToRoom("r")]),
+            Clause("year", [], [Put("p", "nobody"), ToRoom("r")])])
+        found = self.check(custom, Who("p"), None)
+        self.assertEqual(found.rings.ring, ((("open",), ("keep",)),))
+        self.check(custom, Who("p"), 1, without=["keep"])
+
+    def test_a_ring_of_several_years(self):
+        # Only in every third year the thing is kept, and it must be.
+        custom = clocked_custom(1, 1, 3, kinds=[("set", 1), ("keep", 0)], clauses=[
+            Clause("set", [], [Put("p", "first"), Zero("k")]), Clause("keep", [AtLeast("k", 2)], [Zero("k")]),
+            Clause("year", [AtLeast("k", 3)], [Put("p", "nobody")])])
+        found = self.check(custom, Who("p"), None)
+        self.assertEqual(len(found.rings.ring), 2)
+        self.check(custom, Who("p"), 2, without=["keep"])
+
+    def test_names_that_come_again_late(self):
+        for seed in (706, *range(30)):
+            custom = lively_custom(seed, seats=3, cap=2)
+            if most_pairs(custom, custom) > 60000:
+                continue
+            for question in (Who("p"), *drawn_questions(seed, custom, 2)):
+                found = searching(custom, question)
+                self.assertIsNone(found_fault(custom, found, question), seed)
+                for years in (1, 2, 7):
+                    pasts = pasts_for(custom, years, question)
+                    self.assertEqual(pasts is None, isinstance(found, Found) and found.years <= years)
+                    self.assertTrue(pasts is None or pasts_fault(custom, pasts, question) is None, seed)
 
 
 class PastsForTest(Case):
