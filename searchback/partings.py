@@ -116,7 +116,7 @@ def _falling_rows(climb, node, years):
             ahead = waiting[at]
             at += 1
             for to in climb.deed_ways[ahead]:
-                if to not in before and climb.heights[to] == height:
+                if to not in before:
                     before[to] = (ahead, False)
                     waiting.append(to)
         rows.extend(_rows_back(before, waiting[at]))

@@ -24,6 +24,7 @@ STATEMENTS = (
     ast.FunctionDef, ast.ClassDef, ast.Return, ast.Assign, ast.AugAssign, ast.For, ast.While, ast.If, ast.Raise, ast.Try,
     ast.Assert, ast.ImportFrom, ast.Expr, ast.Pass, ast.Break, ast.Continue, ast.Delete,
 )
+CHANGING = {"append", "clear", "extend", "insert", "pop", "remove", "reverse", "setdefault", "update"}
 TAKES_LISTS = ("any", "all", "min", "max", "sum", "sorted")
 
 
@@ -237,6 +238,59 @@ class RulesTest(unittest.TestCase):
                     if word in yielding:
                         self.assertIn(id(node), iterated, (name, node.lineno))
 
+    def test_generators_are_passed_plain_things(self):
+        yielding = {node.name for _, node in walked(ast.FunctionDef)
+                    if any(isinstance(part, (ast.Yield, ast.YieldFrom)) for part in ast.walk(node))}
+        for place, node in walked(ast.Call):
+            word = node.func.id if isinstance(node.func, ast.Name) else node.func.attr
+            if word in yielding:
+                for arg in node.args:
+                    self.assertTrue(isinstance(arg, (ast.Name, ast.Attribute, ast.Constant)) or ast.unparse(arg) == "()", place)
+                self.assertEqual(node.keywords, [], place)
+
+    def test_what_properties_and_operators_run_changes_nothing(self):
+        functions, waiting = {}, []
+        for place, node in walked(ast.FunctionDef):
+            functions.setdefault(node.name, []).append((place, node))
+            if node.decorator_list and node.decorator_list[0].id == "property" or node.name in DUNDERS - {"__init__"}:
+                waiting.append((place, node))
+        seen = set()
+        while waiting:
+            place, node = waiting.pop()
+            if place in seen:
+                continue
+            seen.add(place)
+            own = {ast.unparse(part.targets[0]) for part in ast.walk(node)
+                   if isinstance(part, ast.Assign) and isinstance(part.value, (ast.List, ast.Dict, ast.ListComp, ast.DictComp))}
+            for part in ast.walk(node):
+                self.assertFalse(isinstance(part, ast.Attribute) and not isinstance(part.ctx, ast.Load), place)
+                if isinstance(part, ast.Subscript) and not isinstance(part.ctx, ast.Load):
+                    self.assertIn(ast.unparse(part.value), own, place)
+                if isinstance(part, ast.AugAssign):
+                    self.assertIsInstance(part.value, ast.Constant, place)
+                if isinstance(part, ast.Call) and isinstance(part.func, ast.Attribute):
+                    self.assertTrue(part.func.attr not in CHANGING or ast.unparse(part.func.value) in own, place)
+                if isinstance(part, ast.Call):
+                    word = part.func.id if isinstance(part.func, ast.Name) else part.func.attr
+                    waiting.extend(functions.get(word, []))
+                elif isinstance(part, ast.Attribute):
+                    waiting.extend(row for row in functions.get(part.attr, []) if row[1].decorator_list)
+
+    def test_names_of_methods_and_attributes(self):
+        stored = {node.attr for _, node in walked(ast.Attribute) if isinstance(node.ctx, ast.Store)}
+        methods = {part.name for _, node in walked(ast.ClassDef) for part in node.body if isinstance(part, ast.FunctionDef)}
+        # Both is let in unlike classes; the interface asks for it of these alone.
+        self.assertEqual(stored & methods, {"first"})
+
+    def test_what_comes_from_the_library_is_only_called(self):
+        for name, tree in trees().items():
+            taken = [alias.name for node in tree.body if isinstance(node, ast.ImportFrom) and node.module == "math"
+                     for alias in node.names]
+            called = [id(node.func) for node in ast.walk(tree) if isinstance(node, ast.Call)]
+            for node in ast.walk(tree):
+                if isinstance(node, ast.Name) and node.id in taken:
+                    self.assertIn(id(node), called, name)
+
     def test_lists_instead_of_generator_expressions(self):
         for place, node in walked(ast.Call):
             if isinstance(node.func, ast.Name) and node.func.id in TAKES_LISTS:
@@ -260,11 +314,10 @@ class RulesTest(unittest.TestCase):
                 self.assertNotRegex(word, r"dataclass|overload|contextmanager|_wall|_WallAttr", name)
 
     def test_loops_do_not_change_what_they_go_over(self):
-        changing = {"append", "clear", "extend", "insert", "pop", "remove", "reverse", "setdefault", "update"}
         for place, node in walked(ast.For):
             over = ast.dump(node.iter)
             for part in ast.walk(ast.Module(node.body, [])):
-                if isinstance(part, ast.Call) and isinstance(part.func, ast.Attribute) and part.func.attr in changing:
+                if isinstance(part, ast.Call) and isinstance(part.func, ast.Attribute) and part.func.attr in CHANGING:
                     self.assertNotIn(ast.dump(part.func.value), over, place)
                 if isinstance(part, ast.Subscript) and not isinstance(part.ctx, ast.Load):
                     self.assertNotIn(ast.dump(part.value), over, place)

@@ -422,10 +422,11 @@ class WaysTest(Case):
         self.check(custom, Who("p"), 1, without=["show"])
 
     def test_years_that_end_alike_without_a_deed(self):
-        custom = clocked_custom(2, 2, kinds=[("set", 1), ("show", 0)], clauses=[
-            Clause("set", [], [Put("q", "first"), ToRoom("r")]), Clause("show", [InRoom("s")], [Put("p", "q")]),
-            Clause("year", [InRoom("r")], [Put("p", "nobody"), ToRoom("s")]),
-            Clause("year", [], [Put("q", "nobody"), ToRoom("r")])])
+        # Who was set is known for one more year, and is seen only if it is shown in this year.
+        custom = clocked_custom(2, 3, kinds=[("set", 1), ("show", 0)], clauses=[
+            Clause("set", [], [Put("o", "first")]), Clause("show", [], [Put("p", "q"), ToRoom("s")]),
+            Clause("year", [InRoom("s")], [Put("q", "o"), Put("o", "nobody"), ToRoom("r")]),
+            Clause("year", [], [Put("p", "nobody"), Put("q", "o"), Put("o", "nobody")])])
         found = self.check(custom, Who("p"), 2)
         self.assertEqual(found.pasts.years, ((("show",),),))
         self.check(custom, Who("p"), 1, without=["show"])
@@ -456,11 +457,13 @@ class WaysTest(Case):
         self.check(custom, Who("p"), 2, without=["keep"])
 
     def test_names_that_come_again_late(self):
-        for seed in (706, *range(30)):
-            custom = lively_custom(seed, seats=3, cap=2)
+        # In the first two the names of the beginning do not come again, but later ones do.
+        customs = [fading_custom(seed, seats=3, cap=2) for seed in (706, 12752)]
+        customs += [lively_custom(seed, seats=3, cap=2) for seed in range(25)]
+        for seed, custom in enumerate(customs):
             if most_pairs(custom, custom) > 60000:
                 continue
-            for question in (Who("p"), *drawn_questions(seed, custom, 2)):
+            for question in (Who("p"), Filled("q"), Room()) if "q" in custom.seats else (Who("p"),):
                 found = searching(custom, question)
                 self.assertIsNone(found_fault(custom, found, question), seed)
                 for years in (1, 2, 7):
