@@ -1,6 +1,8 @@
 import unittest
 
+from searchback.heights import beginning_nodes
 from searchback.pairgraph import PairGraph
+from searchback.pairs import beginning_pairs, most_pairs
 from searchback.questions import Who
 from tests.helpers import (
     Case, lively_custom, random_custom, random_stand, told_after, told_end, told_joint, told_pair_deeds, told_unlike,
@@ -54,6 +56,19 @@ class PairGraphTest(Case):
             found = [self.told(graph, to) for to in graph.led(node)]
             self.assertEqual(len(set(found)), len(found))
             self.assertEqual(set(found), told - {None, told_node(graph, one, other)}, seed)
+
+    def test_beginning_nodes(self):
+        for seed in range(60):
+            custom = lively_custom(seed, seats=3, cap=1)
+            if most_pairs(custom, custom) > 20000:
+                continue
+            graph = PairGraph(custom, (), ())
+            told = {}
+            for pair in beginning_pairs(custom):
+                if not pair.is_equal:
+                    node = graph.node_of(pair.one.code, pair.other.code)
+                    told[node] = told.get(node, 0) + 1
+            self.assertEqual(beginning_nodes(graph), told, seed)
 
     def test_deeds_with_the_names_of_the_stands(self):
         for seed, custom, without, (one, other) in pairs(80):
