@@ -41,13 +41,8 @@ def lot_ahead(frame, whole):
     """The lot of the stands that can stand ahead of the first year."""
     if whole:
         return lot_of([frame.start])
-    ends = {stand.code: True for stand in coming_stands(frame.custom).ends}
-    plain = Frame(frame.custom)
-    codes = [frame.stand_of(number).code for number in range(frame.many)]
-    return lot_of([
-        number for number, code in enumerate(codes)
-        if plain.stand_of(plain.number_of(code)).code in ends
-    ])
+    coming = coming_stands(frame.custom)
+    return lot_of([number for number in range(frame.many) if coming.is_end(frame.stand_of(number))])
 
 
 def lot_behind(frame, lot, entry):
