@@ -65,10 +65,11 @@ def table_fault(graph, heights):
         table[graph.node_of(pair.one.code, pair.other.code)] = height
     if not all([node in table for node in beginning_nodes(graph)]):
         return "beginning"
-    for node, height in table.items():
+    listed = list(table.items())
+    for node, height in listed:
         if not all([to in table and table[to] <= height for to in graph.led(node)]):
             return "deed"
-    for node, height in table.items():
+    for node, height in listed:
         if not _falls(graph, table, height, graph.ended(node)):
             return "end"
     return None

@@ -159,7 +159,8 @@ def stands_after(custom, years):
             lot = _led_lot(lot, ways)
         years = years >> 1
         if years > 0:
-            ways = {number: _led_lot(behind, ways) for number, behind in ways.items()}
+            once = ways
+            ways = {number: _led_lot(once[number], once) for number in list(once)}
     return frame.stands_in(lot)
 
 
