@@ -25,7 +25,7 @@ class Climb:
         self.deed_ways = {}
         self.end_ways = {}
         self.numbers = {}
-        self.least = {}
+        self.lowest = {}
         self.at = {}
         self.places = {}
         self.trail = []
@@ -58,13 +58,13 @@ class Climb:
             if to not in self.numbers:
                 self._enter(to)
             elif to not in self.heights:
-                self.least[node] = min(self.least[node], self.numbers[to])
+                self.lowest[node] = min(self.lowest[node], self.numbers[to])
 
     def _enter(self, node):
         self.deed_ways[node] = self.graph.led(node)
         self.end_ways[node] = self.graph.ended(node)
         self.numbers[node] = len(self.numbers)
-        self.least[node] = self.numbers[node]
+        self.lowest[node] = self.numbers[node]
         self.at[node] = 0
         self.places[node] = len(self.waiting)
         self.trail.append(node)
@@ -75,8 +75,8 @@ class Climb:
         self.trail.pop()
         if self.trail:
             ahead = self.trail[-1]
-            self.least[ahead] = min(self.least[ahead], self.least[node])
-        if self.least[node] == self.numbers[node]:
+            self.lowest[ahead] = min(self.lowest[ahead], self.lowest[node])
+        if self.lowest[node] == self.numbers[node]:
             lot = self.waiting[self.places[node]:]
             del self.waiting[self.places[node]:]
             self._close(lot)

@@ -24,8 +24,8 @@ def placed_names(seats, named=()):
     """For each person who sits what it is called in the placed row, in the order of the seats."""
     seated = sitters(seats)
     others = [person for person in seated if person not in named]
-    labels = fresh_labels(named, len(others))
-    return {person: person if person in named else labels[others.index(person)] for person in seated}
+    labels = dict(zip(others, fresh_labels(named, len(others))))
+    return {person: labels.get(person, person) for person in seated}
 
 
 def placed(seats, named=()):

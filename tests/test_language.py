@@ -67,6 +67,27 @@ def top_names(tree):
     return found
 
 
+def run_by_properties():
+    """Each property and operator, and each function that they run, with the file and its line."""
+    functions, waiting, seen = {}, [], {}
+    for place, node in walked(ast.FunctionDef):
+        functions.setdefault(node.name, []).append((place, node))
+        if node.decorator_list and node.decorator_list[0].id == "property" or node.name in DUNDERS - {"__init__"}:
+            waiting.append((place, node))
+    while waiting:
+        place, node = waiting.pop()
+        if place in seen:
+            continue
+        seen[place] = node
+        for part in ast.walk(node):
+            if isinstance(part, ast.Call):
+                word = part.func.id if isinstance(part.func, ast.Name) else part.func.attr
+                waiting.extend(functions.get(word, []))
+            elif isinstance(part, ast.Attribute):
+                waiting.extend(row for row in functions.get(part.attr, []) if row[1].decorator_list)
+    return sorted(seen.items())
+
+
 class FilesTest(unittest.TestCase):
     def test_only_plain_files(self):
         self.assertIn("__init__.py", FILES)
@@ -249,17 +270,7 @@ class RulesTest(unittest.TestCase):
                 self.assertEqual(node.keywords, [], place)
 
     def test_what_properties_and_operators_run_changes_nothing(self):
-        functions, waiting = {}, []
-        for place, node in walked(ast.FunctionDef):
-            functions.setdefault(node.name, []).append((place, node))
-            if node.decorator_list and node.decorator_list[0].id == "property" or node.name in DUNDERS - {"__init__"}:
-                waiting.append((place, node))
-        seen = set()
-        while waiting:
-            place, node = waiting.pop()
-            if place in seen:
-                continue
-            seen.add(place)
+        for place, node in run_by_properties():
             own = {ast.unparse(part.targets[0]) for part in ast.walk(node)
                    if isinstance(part, ast.Assign) and isinstance(part.value, (ast.List, ast.Dict, ast.ListComp, ast.DictComp))}
             for part in ast.walk(node):
@@ -270,11 +281,16 @@ class RulesTest(unittest.TestCase):
                     self.assertIsInstance(part.value, ast.Constant, place)
                 if isinstance(part, ast.Call) and isinstance(part.func, ast.Attribute):
                     self.assertTrue(part.func.attr not in CHANGING or ast.unparse(part.func.value) in own, place)
-                if isinstance(part, ast.Call):
-                    word = part.func.id if isinstance(part.func, ast.Name) else part.func.attr
-                    waiting.extend(functions.get(word, []))
-                elif isinstance(part, ast.Attribute):
-                    waiting.extend(row for row in functions.get(part.attr, []) if row[1].decorator_list)
+
+    def test_properties_and_operators_call_nothing_that_is_held(self):
+        stored = {node.attr for _, node in walked(ast.Attribute) if isinstance(node.ctx, ast.Store)}
+        for place, node in run_by_properties():
+            local = set(local_names(node))
+            for part in ast.walk(node):
+                if isinstance(part, ast.Call) and isinstance(part.func, ast.Attribute):
+                    self.assertNotIn(part.func.attr, stored, place)
+                elif isinstance(part, ast.Call):
+                    self.assertNotIn(part.func.id, local, place)
 
     def test_names_of_methods_and_attributes(self):
         stored = {node.attr for _, node in walked(ast.Attribute) if isinstance(node.ctx, ast.Store)}
