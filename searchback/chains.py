@@ -1,8 +1,8 @@
 """How a seat came to be held, for how long, and what raised a clock."""
 
-from searchback.checks import check_kinds
+from searchback.checks import check_kinds, check_seat
 from searchback.clauses import Put, Zero
-from searchback.errors import BadClock, BadSeat
+from searchback.errors import BadClock
 from searchback.labels import is_label
 from searchback.walks import code_steps, end_codes
 
@@ -40,14 +40,14 @@ class Term:
 def chain_of(custom, history, seat):
     """The links by which the seat came to be held as it is at the end, the newest first."""
     check_kinds(custom, history)
-    _check_seat(custom, seat)
+    check_seat(custom, seat)
     return tuple([Link(*row) for row in _chain_rows(custom, history, seat)])
 
 
 def root_of(custom, history, seat):
     """The (year, place, person) of the deed that brought in who sits in the seat, or None."""
     check_kinds(custom, history)
-    _check_seat(custom, seat)
+    check_seat(custom, seat)
     rows = _chain_rows(custom, history, seat)
     if not rows:
         return None
@@ -61,7 +61,7 @@ def root_of(custom, history, seat):
 def terms_of(custom, history, seat):
     """The terms into which the holders of the seat cut the years' ends."""
     check_kinds(custom, history)
-    _check_seat(custom, seat)
+    check_seat(custom, seat)
     at = custom.seats.index(seat)
     holders = [code[1][at] for code in end_codes(custom, history)]
     terms = []
@@ -91,11 +91,6 @@ def counted_years(custom, history, clock):
             counted = []
         number, running = code[2][at]
     return tuple(counted)
-
-
-def _check_seat(custom, seat):
-    if not is_label(seat) or seat not in custom.seats:
-        raise BadSeat(seat)
 
 
 def _chain_rows(custom, history, seat):

@@ -1,10 +1,11 @@
 """Errors that several functions raise in the same way."""
 
-from searchback.errors import BadQuestion, BadStand, NoKind, OtherKinds, TooMany
-from searchback.labels import is_sequence
+from searchback.errors import BadPerson, BadQuestion, BadRest, BadSeat, BadStand, NoKind, OtherKinds, TooMany
+from searchback.labels import is_label, is_sequence, is_whole
 from searchback.questions import question_fault
 
 MOST_STANDS = 400
+MOST_REST = 500
 
 
 def check_kinds(custom, thing):
@@ -41,6 +42,24 @@ def check_stand(custom, stand):
     word = custom.stand_fault(stand)
     if word is not None:
         raise BadStand(word)
+
+
+def check_seat(custom, seat):
+    """Raise BadSeat unless the custom has the seat."""
+    if not is_label(seat) or seat not in custom.seats:
+        raise BadSeat(seat)
+
+
+def check_person(person):
+    """Raise BadPerson unless the thing is a label."""
+    if not is_label(person):
+        raise BadPerson(person)
+
+
+def check_rest(rest):
+    """Raise BadRest unless this is a number of hindered years in a row that can be asked for."""
+    if not is_whole(rest, 0, MOST_REST):
+        raise BadRest(rest)
 
 
 def check_size(custom):

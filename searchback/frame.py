@@ -27,6 +27,44 @@ def lot_of(numbers):
     return lot
 
 
+def all_from(ways, lot):
+    """The lot of all stands to which steps, or none, lead from the lot.
+
+    Each stand has in its place the lot of those to which one step leads.
+    """
+    seen = lot
+    new = lot
+    while new > 0:
+        found = 0
+        for number in numbers_in(new):
+            found = found | ways[number]
+        new = found & ~seen
+        seen = seen | new
+    return seen
+
+
+def path_into(ways, lot, goals):
+    """The numbers on a shortest way by such steps from a stand of the lot to one of another lot, the goals."""
+    before = {number: None for number in numbers_in(lot)}
+    waiting = list(before)
+    seen = lot
+    at = 0
+    while not (goals >> waiting[at]) & 1:
+        number = waiting[at]
+        at += 1
+        new = ways[number] & ~seen
+        seen = seen | new
+        for to in numbers_in(new):
+            before[to] = number
+            waiting.append(to)
+    found = []
+    number = waiting[at]
+    while number is not None:
+        found.append(number)
+        number = before[number]
+    return found[::-1]
+
+
 class Frame:
     """The placed stands of one custom for some named persons."""
 
@@ -51,7 +89,18 @@ class Frame:
         """The number of the placed stand of the stand with this code."""
         room, seats, clocks = code
         face = self.faces.places[(room, clocks)]
-        return self._number_at(self._seating_of(seats), face)
+        return self.number_at(self.seating_of(seats), face)
+
+    def number_at(self, row, face):
+        """The number of the placed stand with this row of seats and this face."""
+        room, clocks = divmod(face, len(self.faces.readings))
+        return (room * len(self.seatings) + row) * len(self.faces.readings) + clocks
+
+    def seating_of(self, seats):
+        """The place of the placed row of these seats."""
+        if seats not in self.places:
+            self.places[seats] = self.places[placed(seats, self.named)]
+        return self.places[seats]
 
     def stand_of(self, number):
         """The placed stand with this number."""
@@ -93,31 +142,14 @@ class Frame:
             number = (left & -left).bit_length() - 1
             key = (number, kinds)
             if key not in self.known_reached:
-                self.known_reached[key] = self._reached_from(number, kinds)
+                self.known_reached[key] = all_from(self.ways_of(kinds), 1 << number)
             found = found | self.known_reached[key]
             left = left & ~found
         return found
 
     def path(self, lot, kinds, goal):
         """The numbers on a shortest way by deeds of these kinds from a stand of the lot to the goal."""
-        ways = self.ways_of(kinds)
-        before = {number: None for number in numbers_in(lot)}
-        waiting = list(before)
-        seen = lot
-        at = 0
-        while goal not in before:
-            number = waiting[at]
-            at += 1
-            new = ways[number] & ~seen
-            seen = seen | new
-            for to in numbers_in(new):
-                before[to] = number
-                waiting.append(to)
-        found = []
-        while goal is not None:
-            found.append(goal)
-            goal = before[goal]
-        return found[::-1]
+        return path_into(self.ways_of(kinds), lot, 1 << goal)
 
     def ways_of(self, kinds):
         """For each stand the lot of those to which one deed of these kinds leads."""
@@ -138,30 +170,8 @@ class Frame:
                     return deed
         return None
 
-    def _reached_from(self, number, kinds):
-        ways = self.ways_of(kinds)
-        seen = 1 << number
-        new = seen
-        while new > 0:
-            found = 0
-            for one in numbers_in(new):
-                found = found | ways[one]
-            new = found & ~seen
-            seen = seen | new
-        return seen
-
     def _ends(self):
         return [self.number_of(end_step(self.custom, self.stand_of(number).code)[1]) for number in range(self.many)]
-
-    def _number_at(self, row, face):
-        room, clocks = divmod(face, len(self.faces.readings))
-        return (room * len(self.seatings) + row) * len(self.faces.readings) + clocks
-
-    def _seating_of(self, seats):
-        """The place of the placed row of these seats."""
-        if seats not in self.places:
-            self.places[seats] = self.places[placed(seats, self.named)]
-        return self.places[seats]
 
     def _ways_of_kind(self, kind):
         if kind not in self.kind_ways:
@@ -179,9 +189,9 @@ class Frame:
             view = view_of(seats, deed)
             for face, (to, places) in enumerate(self.faces.outcomes(kind, view)):
                 behind = tuple([view[place] for place in places])
-                number = self._number_at(row, face)
+                number = self.number_at(row, face)
                 lot = self._rows_lot(behind, seats, strangers)
-                ways[number] = ways[number] | (lot << self._number_at(0, to))
+                ways[number] = ways[number] | (lot << self.number_at(0, to))
 
     def _rows_lot(self, behind, seats, strangers):
         """The lot, at the first face, of these seats with anybody in the place of the strangers.
@@ -199,7 +209,7 @@ class Frame:
             names = {person: person for person in seated}
             lot = 0
             for first, second in both:
-                row = self._seating_of(called(behind, {**names, strangers[0]: first, strangers[1]: second}))
-                lot = lot | (1 << self._number_at(row, 0))
+                row = self.seating_of(called(behind, {**names, strangers[0]: first, strangers[1]: second}))
+                lot = lot | (1 << self.number_at(row, 0))
             self.row_lots[key] = lot
         return self.row_lots[key]

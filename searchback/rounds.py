@@ -1,8 +1,8 @@
 """Rounds: one person plays against all others."""
 
-from searchback.checks import check_size, check_stand
-from searchback.errors import BadPerson, BadRound, BadStand
-from searchback.labels import is_label, is_sequence
+from searchback.checks import check_person, check_size, check_stand
+from searchback.errors import BadRound, BadStand
+from searchback.labels import is_sequence
 from searchback.patterns import deeds_over
 from searchback.shapes import clock_rows, placed, seatings
 from searchback.stand import Stand
@@ -13,13 +13,13 @@ def marked_stand(stand, person):
     """The stand in which the person keeps its label and all others have the first ones left."""
     if not isinstance(stand, Stand):
         raise BadStand("stand")
-    _check_person(person)
+    check_person(person)
     return Stand(stand.room, placed(stand.seats, (person,)), stand.clocks)
 
 
 def marked_stands(custom, person):
     """All marked stands of the custom's shape, in order."""
-    _check_person(person)
+    check_person(person)
     check_size(custom)
     rows = seatings(len(custom.seats), (person,))
     readings = clock_rows(custom.clocks)
@@ -39,7 +39,7 @@ def own_deeds(custom, stand, person):
 def ends_of_rounds(custom, stand, person, rounds):
     """The stands at the ends of rounds that are played one behind another."""
     check_stand(custom, stand)
-    _check_person(person)
+    check_person(person)
     if not is_sequence(rounds):
         raise BadRound(0, "rounds")
     for index, row in enumerate(rounds):
@@ -61,14 +61,9 @@ def is_own(deed, person):
 
 def _all_deeds(custom, stand, person):
     check_stand(custom, stand)
-    _check_person(person)
+    check_person(person)
     persons = (person, *[other for other in stand.persons if other != person])
     return [deed for deed in deeds_over(custom.kinds, persons)]
-
-
-def _check_person(person):
-    if not is_label(person):
-        raise BadPerson(person)
 
 
 def _round_fault(custom, row, person):

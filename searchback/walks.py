@@ -81,11 +81,16 @@ def end_codes(custom, history):
         yield code
 
 
+def code_led(custom, code, deeds):
+    """The code behind some deeds of a year."""
+    for deed in deeds:
+        code = deed_step(custom, code, deed)[1]
+    return code
+
+
 def code_behind(custom, code, year):
     """The code behind the deeds of a year and its end."""
-    for deed in year:
-        code = deed_step(custom, code, deed)[1]
-    return end_step(custom, code)[1]
+    return end_step(custom, code_led(custom, code, year))[1]
 
 
 def _code_at(custom, history, years):

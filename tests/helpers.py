@@ -528,6 +528,32 @@ def fading_custom(seed, seats=2, cap=4):
     return Custom(kinds, rooms, names, clocks, clauses)
 
 
+def guarded_custom(seed, cap=4):
+    """A drawn custom in which who sits must act to go on sitting, and others can hurry it on."""
+    rnd = random.Random(seed)
+    kinds = Kinds([("own", 1), ("push", rnd.choice((0, 1))), ("take", rnd.choice((1, 1, 2)))][:rnd.choice((2, 3, 3))])
+    rooms = ("r", "s")[:rnd.choice((1, 2, 2))]
+    seats = ("p", "q")[:rnd.choice((1, 1, 1, 2))]
+    clocks = [("k", rnd.randint(1, cap), rnd.random() < 0.9)]
+    limit = rnd.randint(1, clocks[0][1])
+    clauses = [Clause("own", [Is("p", "first"), *[InRoom(rnd.choice(rooms))][:rnd.choice((0, 1))]],
+                      [Zero("k"), *[ToRoom(rnd.choice(rooms))][:rnd.choice((0, 1))], *[Run("k")][:rnd.choice((0, 1))]])]
+    guard = [random_condition(rnd, rooms, seats, clocks, kinds.arity_of("push")) for _ in range(rnd.choice((0, 1)))]
+    pushed = [ToRoom(rnd.choice(rooms)), *[Run("k")][:rnd.choice((0, 1))]]
+    if kinds.arity_of("push") == 1 and rnd.random() < 0.7 and IsNot("p", "first") not in guard:
+        guard = [*guard, IsNot("p", "first")]
+    clauses.append(Clause("push", guard, pushed))
+    if "take" in kinds:
+        wanted = [rnd.choice((Is("p", "nobody"), AtLeast("k", limit), InRoom(rooms[-1])))]
+        clauses.append(Clause("take", wanted, [Put("p", "first"), *[Zero("k")][:rnd.choice((0, 1))]]))
+    gone = rnd.choice((Put("p", "nobody"), Put("p", "nobody"), ToRoom(rooms[-1])))
+    clauses.append(Clause("year", [AtLeast("k", limit), *[InRoom(rnd.choice(rooms))][:rnd.choice((0, 1))]], [gone]))
+    if rnd.random() < 0.6:
+        clauses.append(Clause("year", [InRoom(rnd.choice(rooms))], [
+            ToRoom(rnd.choice(rooms)), *[Put("p", "nobody")][:rnd.choice((0, 0, 1))]]))
+    return Custom(kinds, rooms, seats, clocks, clauses)
+
+
 def searched_customs(many):
     """Drawn customs of many numbers, endless ones too, each with a number for more choices."""
     for seed in range(many):
