@@ -5,7 +5,7 @@ first labels that are free at each step: no more than those of six persons and t
 The rows of a way are its years, each with the nodes to which its deeds lead.
 """
 
-from searchback.customs import deed_step, end_step
+from searchback.joint import played, rows_back
 from searchback.pasts import Pasts, Rings
 from searchback.stand import Stand
 from searchback.stands import coming_stands
@@ -22,7 +22,7 @@ def parting_pasts(climb, years):
     else:
         start = [node for node in climb.roots if climb.heights[node] == years][0]
     one, other = graph.codes_of(start)
-    common = _played(graph, one, other, _falling_rows(climb, start, years))[0]
+    common = played(graph, one, other, _falling_rows(climb, start, years))[0]
     return Pasts(_past_to(graph, one), _past_to(graph, other), common)
 
 
@@ -56,11 +56,11 @@ def _turning_years(climb):
     years = []
     while (one, other) not in met:
         met[(one, other)] = len(years)
-        played, one, other = _played(graph, one, other, rows)
-        years.extend(played)
+        turn, one, other = played(graph, one, other, rows)
+        years.extend(turn)
     tail = ()
     if not graph.is_unlike(climb.turn):
-        tail = _played(graph, one, other, _rows_to(climb, climb.turn, None))[0]
+        tail = played(graph, one, other, _rows_to(climb, climb.turn, None))[0]
     return (one, other, tuple(years[met[(one, other)]:]), tail)
 
 
@@ -83,26 +83,13 @@ def _rows_to(climb, start, goal):
         if to is not None and to not in before:
             before[to] = (node, True)
             waiting.append(to)
-    return _rows_back(before, waiting[at])
+    return rows_back(before, waiting[at])
 
 
 def _is_goal(climb, node, goal):
     if node is None:
         return False
     return climb.graph.is_unlike(node) if goal is None else node == goal
-
-
-def _rows_back(before, node):
-    """The rows of the way on which each node has the one ahead, and whether a year's end led on."""
-    rows = [[]]
-    while before[node] is not None:
-        ahead, at_end = before[node]
-        if at_end:
-            rows.append([])
-        else:
-            rows[-1].append(node)
-        node = ahead
-    return [row[::-1] for row in rows[::-1]]
 
 
 def _falling_rows(climb, node, years):
@@ -119,7 +106,7 @@ def _falling_rows(climb, node, years):
                 if to not in before:
                     before[to] = (ahead, False)
                     waiting.append(to)
-        rows.extend(_rows_back(before, waiting[at]))
+        rows.extend(rows_back(before, waiting[at]))
         node = climb.end_ways[waiting[at]]
     return rows
 
@@ -129,22 +116,6 @@ def _falls_by_one(climb, to, height):
     if to is None:
         return False
     return climb.graph.is_unlike(to) if height == 1 else climb.heights[to] == height - 1
-
-
-def _played(graph, one, other, rows):
-    """The years of the rows from these two codes on, and both codes behind them."""
-    years = []
-    for row in rows:
-        deeds = []
-        for node in row:
-            deed = graph.deed_to(one, other, node)
-            deeds.append(deed)
-            one = deed_step(graph.custom, one, deed)[1]
-            other = deed_step(graph.custom, other, deed)[1]
-        one = end_step(graph.custom, one)[1]
-        other = end_step(graph.custom, other)[1]
-        years.append(tuple(deeds))
-    return (tuple(years), one, other)
 
 
 def _led_both(graph, one, other, years):

@@ -39,7 +39,7 @@ class Sides:
         """Whether the person sits in the seat at this code."""
         return code[1][self.custom.seats.index(seat)] == self.person
 
-    def seated(self, seat):
+    def seat_lot(self, seat):
         """The lot of the stands in which the person sits in the seat."""
         numbers = range(self.frame.many)
         return lot_of([number for number in numbers if self.is_seated(self.frame.stand_of(number).code, seat)])

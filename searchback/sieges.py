@@ -12,7 +12,7 @@ class Siege:
     def __init__(self, sides, seat, rest):
         self.sides = sides
         self.rest = rest
-        self.seated = sides.seated(seat)
+        self.seated = sides.seat_lot(seat)
         self.unseated = sides.everywhere & ~self.seated
         self.known = {}
         self.layers = [tuple([0 for _ in range(rest + 1)])]
@@ -68,7 +68,7 @@ class Pursuit:
 
     def __init__(self, sides, seat):
         self.sides = sides
-        self.seated = sides.seated(seat)
+        self.seated = sides.seat_lot(seat)
         self.layers = [0]
         behind = self._behind(0)
         while behind != self.layers[-1]:
@@ -95,7 +95,7 @@ class Pursuit:
 
 def is_never_lost(sides, seat, number):
     """Whether the person keeps the seat from this stand though it is hindered for ever."""
-    unseated = sides.everywhere & ~sides.seated(seat)
+    unseated = sides.everywhere & ~sides.seat_lot(seat)
     lost = unseated
     behind = unseated | sides.forced(sides.ending(lost))
     while behind != lost:

@@ -10,7 +10,7 @@ import warnings
 FOLDER = os.path.join(os.path.dirname(os.path.dirname(os.path.abspath(__file__))), "searchback")
 FILES = sorted(os.listdir(FOLDER))
 BUILTINS = set("""len range enumerate zip min max sum abs sorted reversed int str bool list tuple dict set isinstance ord
-repr any all divmod iter ValueError NotImplemented property classmethod staticmethod""".split())
+repr any all divmod iter super ValueError NotImplemented property classmethod staticmethod""".split())
 METHODS = set("""append clear copy count endswith extend find get index insert isalnum isalpha isdigit islower isspace
 isupper items join keys ljust lower lstrip partition pop remove replace reverse rfind rjust rpartition rsplit rstrip
 setdefault split splitlines startswith strip update upper values zfill bit_length isascii add discard""".split())
@@ -204,7 +204,7 @@ class RulesTest(unittest.TestCase):
                         self.assertIn(node.id, BUILTINS, (name, node.lineno))
                 if isinstance(node, (ast.Name, ast.Attribute)):
                     word = node.id if isinstance(node, ast.Name) else node.attr
-                    self.assertTrue(not word.startswith("__") or word in ("__class__", "__name__"), (name, node.lineno))
+                    self.assertTrue(not word.startswith("__") or word in ("__class__", "__name__", "__init__"), (name, node.lineno))
 
     def test_methods(self):
         own = {node.name for _, node in walked(ast.FunctionDef)}
