@@ -52,6 +52,14 @@ FUNCTIONS = {
     "steady": ["steady_years(custom, entry, question)"],
     "rounds": ["marked_stand(stand, person)", "marked_stands(custom, person)", "others_deeds(custom, stand, person)",
                "own_deeds(custom, stand, person)", "ends_of_rounds(custom, stand, person, rounds)"],
+    "keeping": ["keeping(custom, stand, seat, person, *, rest=0)", "kept_stands(custom, seat, person, *, rest=0)",
+                "greatest_rest(custom, stand, seat, person)"],
+    "getting": ["getting(custom, stand, seat, person)"],
+    "planfaults": ["keeping_fault(custom, stand, seat, person, paper, *, rest=0)",
+                   "getting_fault(custom, stand, seat, person, paper)"],
+    "alike": ["alike_customs(one, other, *questions)", "parting_years(one, other, *questions)",
+              "covering(one, other, seat)"],
+    "alikefault": ["alike_fault(one, other, questions, found)", "covers_fault(one, other, seat, found)"],
 }
 PIECES = {
     "InRoom": "(room)", "NotInRoom": "(room)", "Is": "(seat, what)", "IsNot": "(seat, what)", "SamePerson": "()",
@@ -60,6 +68,7 @@ PIECES = {
 CHANGES = {"ToRoom": "(room)", "Put": "(seat, what)", "Zero": "(clock)", "Run": "(clock)", "Halt": "(clock)"}
 QUESTIONS = {"Who": "(seat)", "Room": "()", "Filled": "(seat)", "Together": "(seat, other)", "Reached": "(clock, number)"}
 ENTRIES = {"Known": "(deeds)", "Without": "(names)", "Unknown": "()", "Noted": "(names, deeds)", "Holding": "(deeds)"}
+TABLES = {"Alike": "(ends, moments)", "Covers": "(ends, moments)"}
 CLASSES = {
     "kinds": {"Kinds": ("(rows)", ["arity_of(self, name)", "fault(self, deed)", "__eq__", "__len__", "__iter__",
                                    "__contains__"], [])},
@@ -110,10 +119,20 @@ CLASSES = {
                  "Unsure": ("(one, other)", [], [])},
     "books": {"Book": ("(years, names)", ["__eq__"], [])},
     "steady": {"Steady": ("(years, answer, layers)", [], []), "Unsteady": ("(layers)", [], [])},
+    "plans": {"Keeps": ("(rest, rows)", ["own_row(self, stand, person)"], []),
+              "Loses": ("(rest, years, rows)", ["others_row(self, stand, person, hindered)"], []),
+              "Gets": ("(years, rows)", ["own_row(self, stand, person)"], []),
+              "Never": ("(rows)", ["others_row(self, stand, person)"], [])},
+    "keeping": {"Rest": ("(years)", ["allows(self, rest)", "__eq__"], []),
+                "Always": ("()", ["allows(self, rest)", "__eq__"], []),
+                "NoRest": ("()", ["allows(self, rest)", "__eq__"], [])},
+    "closed": {"Closed": (None, ["is_moment(self, pair)", "is_end(self, pair)", "__len__", "__iter__", "__eq__"], []),
+               **{name: (shape, [], []) for name, shape in TABLES.items()},
+               "Parting": ("(history, question, first, second)", ["__eq__"], [])},
 }
 BASES = {
     "Condition": ("clauses", PIECES), "Change": ("clauses", CHANGES), "Question": ("questions", QUESTIONS),
-    "Entry": ("entries", ENTRIES),
+    "Entry": ("entries", ENTRIES), "Closed": ("closed", TABLES),
 }
 VALUES = {"histories": {"MOST_YEARS": 10 ** 6, "MOST_DEEDS": 10 ** 6}, "abstracts": {"MOST_ENTRIES": 200, "MOST_NAMED": 8},
           "layers": {"MOST_PLACINGS": 4000}, "books": {"MOST_BOOKS": 8}}
