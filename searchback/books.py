@@ -2,12 +2,13 @@
 
 from searchback.abstracts import Abstract, abstract_of
 from searchback.checks import check_kinds, check_questions
+from searchback.choices import is_part, lots_of
 from searchback.entries import Noted
 from searchback.errors import BadBook, BadShelf
-from searchback.fillings import lot_answers
+from searchback.fillings import is_sure_through
 from searchback.frame import Frame
 from searchback.labels import is_count, is_label, is_sequence
-from searchback.layers import check_placings, lot_ahead, lots_through
+from searchback.layers import check_placings, lot_ahead
 
 MOST_BOOKS = 8
 
@@ -51,17 +52,17 @@ def noted_of(history, books, *, whole=False):
 def least_books(custom, history, question, books, *, whole=False):
     """All least lots of books with which alone the answer is sure."""
     trial = _trial_of(custom, history, question, books, whole)
-    needed = trial.needed()
+    needed = trial.needed_ones()
     found = []
-    for lot in _lots_of(len(books)):
-        if _is_part(needed, lot) and not any([_is_part(one, lot) for one in found]) and trial.is_enough(lot):
+    for lot in lots_of(list(range(len(books)))):
+        if is_part(needed, lot) and not any([is_part(one, lot) for one in found]) and trial.is_enough(lot):
             found.append(lot)
     return tuple(found)
 
 
 def needed_books(custom, history, question, books, *, whole=False):
     """The books without each of which all others are not enough."""
-    return _trial_of(custom, history, question, books, whole).needed()
+    return _trial_of(custom, history, question, books, whole).needed_ones()
 
 
 def enough_years(custom, history, question):
@@ -72,13 +73,13 @@ def enough_years(custom, history, question):
     check_placings(custom, len(abstract.persons))
     frame = Frame(custom, abstract.persons)
     ahead = lot_ahead(frame, False)
-    if not _is_sure(frame, ahead, abstract.years, question):
+    if not is_sure_through(frame, ahead, abstract.years, question):
         return None
     # With more years known, the answer stays sure.
     least, most = 0, len(abstract)
     while least < most:
         middle = (least + most) // 2
-        if _is_sure(frame, ahead, abstract.last(middle).years, question):
+        if is_sure_through(frame, ahead, abstract.last(middle).years, question):
             most = middle
         else:
             least = middle + 1
@@ -106,10 +107,10 @@ class ShelfTrial:
         if lot not in self.known:
             books = [self.books[index] for index in lot]
             entries = noted_of(self.history, books, whole=self.whole).years
-            self.known[lot] = _is_sure(self.frame, self.ahead, entries, self.question)
+            self.known[lot] = is_sure_through(self.frame, self.ahead, entries, self.question)
         return self.known[lot]
 
-    def needed(self):
+    def needed_ones(self):
         """The books without each of which all others are not enough."""
         every = tuple(range(len(self.books)))
         return tuple([
@@ -125,10 +126,6 @@ def _trial_of(custom, history, question, books, whole):
     abstract = noted_of(history, books, whole=whole)
     check_placings(custom, len(abstract.persons))
     return ShelfTrial(custom, history, question, books, abstract)
-
-
-def _is_sure(frame, ahead, entries, question):
-    return lot_answers(frame, lots_through(frame, ahead, entries)[-1], question).is_sure
 
 
 def _check_shelf(history, books):
@@ -148,15 +145,3 @@ def _noted_year(history, books, year):
     noted = {name: True for book in books if year in book.years for name in book.names}
     names = [name for name in history.kinds.names if name in noted]
     return Noted(names, [deed for deed in history.years[year] if deed[0] in noted])
-
-
-def _lots_of(many):
-    """All lots of so many books: fewer books first, then ascending."""
-    lots = [()]
-    for book in range(many):
-        lots = [*lots, *[(*lot, book) for lot in lots]]
-    return [lot for size in range(many + 1) for lot in sorted([one for one in lots if len(one) == size])]
-
-
-def _is_part(one, lot):
-    return all([book in lot for book in one])

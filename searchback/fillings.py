@@ -83,6 +83,11 @@ def lot_answers(frame, lot, question):
     return Answers(possible, len(found) > len(possible))
 
 
+def is_sure_through(frame, ahead, entries, question):
+    """Whether the answer is sure behind these entries, from this lot on."""
+    return lot_answers(frame, lots_through(frame, ahead, entries)[-1], question).is_sure
+
+
 def is_same_answer(one, other):
     """Whether any thing is the same answer as this one; 1 and 0 are other answers than True and False."""
     if one is None:

@@ -48,3 +48,8 @@ def fresh_labels(taken, many):
 def is_count(thing):
     """Whether the thing is a whole number from 0, of any size."""
     return is_whole(thing, 0, thing)
+
+
+def is_positive(thing):
+    """Whether the thing is a whole number from 1, of any size."""
+    return is_whole(thing, 1, thing)

@@ -1,7 +1,7 @@
 """Plans of one person, and of all others, for a seat."""
 
 from searchback.errors import BadPaper, NoRow
-from searchback.labels import fresh_labels, is_count, is_label, is_sequence
+from searchback.labels import fresh_labels, is_count, is_label, is_positive, is_sequence
 from searchback.rounds import marked_stand
 from searchback.stand import Stand
 
@@ -36,7 +36,7 @@ class Loses:
         if not is_count(rest) or not is_count(years) or not _are_rows(rows, 5):
             raise BadPaper()
         for stand, hindered, left, others, hinder in rows:
-            if not isinstance(stand, Stand) or not is_count(hindered) or not _is_counted(left):
+            if not isinstance(stand, Stand) or not is_count(hindered) or not is_positive(left):
                 raise BadPaper()
             if not _are_deeds(others) or not isinstance(hinder, bool):
                 raise BadPaper()
@@ -63,7 +63,7 @@ class Gets:
         if not is_count(years) or not _are_rows(rows, 3):
             raise BadPaper()
         for stand, left, own in rows:
-            if not isinstance(stand, Stand) or not _is_counted(left) or not _are_deeds(own):
+            if not isinstance(stand, Stand) or not is_positive(left) or not _are_deeds(own):
                 raise BadPaper()
         self.years = years
         self.rows = tuple([(stand, left, _as_deeds(own)) for stand, left, own in rows])
@@ -111,11 +111,6 @@ def _is_deed(deed):
     if not is_sequence(deed) or not 1 <= len(deed) <= 1 + MOST_PERSONS_OF_A_DEED:
         return False
     return all([is_label(word) for word in deed])
-
-
-def _is_counted(years):
-    """Whether this is a whole number from 1."""
-    return is_count(years) and years > 0
 
 
 def _as_deeds(deeds):

@@ -14,7 +14,8 @@ repr any all divmod iter super ValueError NotImplemented property classmethod st
 METHODS = set("""append clear copy count endswith extend find get index insert isalnum isalpha isdigit islower isspace
 isupper items join keys ljust lower lstrip partition pop remove replace reverse rfind rjust rpartition rsplit rstrip
 setdefault split splitlines startswith strip update upper values zfill bit_length isascii add discard""".split())
-DUNDERS = {"__init__", "__eq__", "__repr__", "__str__", "__len__", "__iter__", "__contains__"}
+OPERATORS = {"__eq__", "__repr__", "__str__", "__len__", "__iter__", "__contains__"}
+DUNDERS = {"__init__", "__enter__", "__exit__", *OPERATORS}
 WORDS = set("""type typing enum Enum Flag Generic Protocol ABC ABCMeta namedtuple NamedTuple TypedDict abstractmethod
 dataclass overload contextmanager""".split())
 BARRED = set("""register mro elements open input law version_info with_traceback add_note attrgetter breakpoint builtins
@@ -22,7 +23,7 @@ compile copyright credits delattr dir eval exec exit gc getattr globals hasattr 
 methodcaller os quit setattr super type vars sys""".split())
 STATEMENTS = (
     ast.FunctionDef, ast.ClassDef, ast.Return, ast.Assign, ast.AugAssign, ast.For, ast.While, ast.If, ast.Raise, ast.Try,
-    ast.Assert, ast.ImportFrom, ast.Expr, ast.Pass, ast.Break, ast.Continue, ast.Delete,
+    ast.Assert, ast.ImportFrom, ast.Expr, ast.Pass, ast.Break, ast.Continue, ast.Delete, ast.With,
 )
 CHANGING = {"append", "clear", "extend", "insert", "pop", "remove", "reverse", "setdefault", "update"}
 TAKES_LISTS = ("any", "all", "min", "max", "sum", "sorted")
@@ -72,7 +73,7 @@ def run_by_properties():
     functions, waiting, seen = {}, [], {}
     for place, node in walked(ast.FunctionDef):
         functions.setdefault(node.name, []).append((place, node))
-        if node.decorator_list and node.decorator_list[0].id == "property" or node.name in DUNDERS - {"__init__"}:
+        if node.decorator_list and node.decorator_list[0].id == "property" or node.name in OPERATORS:
             waiting.append((place, node))
     while waiting:
         place, node = waiting.pop()
@@ -225,7 +226,7 @@ class RulesTest(unittest.TestCase):
         methods = [part for _, node in walked(ast.ClassDef) for part in node.body if isinstance(part, ast.FunctionDef)]
         for place, node in walked(ast.FunctionDef):
             for mark in node.decorator_list:
-                self.assertIn(mark.id, ("property", "classmethod"), place)
+                self.assertIn(mark.id, ("property", "classmethod", "staticmethod"), place)
                 self.assertIn(node.name, [part.name for part in methods], place)
         names = [part.name for part in methods if not part.decorator_list]
         for part in methods:
