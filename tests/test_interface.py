@@ -60,6 +60,14 @@ FUNCTIONS = {
     "alike": ["alike_customs(one, other, *questions)", "parting_years(one, other, *questions)",
               "covering(one, other, seat)"],
     "alikefault": ["alike_fault(one, other, questions, found)", "covers_fault(one, other, seat, found)"],
+    "idle": ["idle_clauses(custom)", "acting_history(custom, index)", "dropped(custom, index)",
+             "exchanged(custom, index)", "trimmed(custom)", "spare_clauses(custom, *questions)"],
+    "docket": ["told_answer(docket, year, question)"],
+    "latenews": ["sure_at(docket, year, question)", "settled_years(docket, question)",
+                 "least_shuttings(docket, year, question)", "loose_years(docket, year, question)"],
+    "margins": ["margin_of(docket, year, question)", "margin_fault(docket, year, question, margin)"],
+    "lots": ["least_lots(pool, question, years, *, same=None)"],
+    "lotsfault": ["lots_fault(found)", "limit_numbers(custom, clause, condition, question)"],
 }
 PIECES = {
     "InRoom": "(room)", "NotInRoom": "(room)", "Is": "(seat, what)", "IsNot": "(seat, what)", "SamePerson": "()",
@@ -68,6 +76,7 @@ PIECES = {
 CHANGES = {"ToRoom": "(room)", "Put": "(seat, what)", "Zero": "(clock)", "Run": "(clock)", "Halt": "(clock)"}
 QUESTIONS = {"Who": "(seat)", "Room": "()", "Filled": "(seat)", "Together": "(seat, other)", "Reached": "(clock, number)"}
 ENTRIES = {"Known": "(deeds)", "Without": "(names)", "Unknown": "()", "Noted": "(names, deeds)", "Holding": "(deeds)"}
+AMENDMENTS = {"Drop": "(clause)", "PutIn": "(place, clause)", "Limit": "(clause, condition, limit)", "Swap": "(clause)"}
 TABLES = {"Alike": "(ends, moments)", "Covers": "(ends, moments)"}
 CLASSES = {
     "kinds": {"Kinds": ("(rows)", ["arity_of(self, name)", "fault(self, deed)", "__eq__", "__len__", "__iter__",
@@ -129,10 +138,24 @@ CLASSES = {
     "closed": {"Closed": (None, ["is_moment(self, pair)", "is_end(self, pair)", "__len__", "__iter__", "__eq__"], []),
                **{name: (shape, [], []) for name, shape in TABLES.items()},
                "Parting": ("(history, question, first, second)", ["__eq__"], [])},
+    "docket": {"News": ("(number, year, place, deed)", ["__eq__"], []),
+               "Docket": ("(custom, years, *, ahead=False)", [
+                   "news(self)", "told_history(self)", "tell(self, year, place, deed)", "take_back(self, number)",
+                   "shut(self, year)", "reopen(self, year)", "trial(self)", "tried(self, call)", "do(self, row)",
+                   "told_stand(self, year)", "abstract_to(self, year)", "__len__", "__iter__", "__eq__"], ["persons"])},
+    "margins": {"Margin": ("(needed, example)", [], [])},
+    "amendments": {"Amendment": ("()", ["fault(self, custom)", "__eq__"], ["touched"]),
+                   **{name: (shape, ["fault(self, custom)", "__eq__"], ["touched"])
+                      for name, shape in AMENDMENTS.items()}},
+    "pools": {"Pool": ("(custom, amendments)", ["lots(self)", "clash(self, lot)", "amended(self, lot)", "__len__",
+                                               "__iter__", "__eq__"], [])},
+    "lots": {"Verdict": ("(lot, word, years, found, table)", ["__eq__"], []),
+             "Lots": ("(pool, question, years, same, verdicts)", ["verdict_of(self, lot)", "pasts_of(self, lot)",
+                                                                  "__len__", "__iter__"], ["good", "least"])},
 }
 BASES = {
     "Condition": ("clauses", PIECES), "Change": ("clauses", CHANGES), "Question": ("questions", QUESTIONS),
-    "Entry": ("entries", ENTRIES), "Closed": ("closed", TABLES),
+    "Entry": ("entries", ENTRIES), "Closed": ("closed", TABLES), "Amendment": ("amendments", AMENDMENTS),
 }
 VALUES = {"histories": {"MOST_YEARS": 10 ** 6, "MOST_DEEDS": 10 ** 6}, "abstracts": {"MOST_ENTRIES": 200, "MOST_NAMED": 8},
           "layers": {"MOST_PLACINGS": 4000}, "books": {"MOST_BOOKS": 8}}
@@ -186,7 +209,14 @@ class InterfaceTest(unittest.TestCase):
         self.assertIs(type(vars(abstract)["from_entries"]), classmethod)
         self.assertEqual(str(inspect.signature(abstract.from_entries)), "(kinds, *entries)")
 
+    def test_what_stands_in_the_docket_itself(self):
+        docket = module_of("docket").Docket
+        self.assertIs(type(vars(docket)["replayed"]), staticmethod)
+        self.assertEqual(str(inspect.signature(docket.replayed)), "(custom, years, rows, *, ahead=False)")
+        self.assertEqual((vars(docket)["MOST_DEEDS"], vars(docket)["MOST_PERSONS"]), (12, 6))
+
     def test_generators(self):
+        self.assertTrue(inspect.isgeneratorfunction(module_of("pools").Pool.lots))
         self.assertTrue(inspect.isgeneratorfunction(module_of("histories").History.beginnings))
         for name, title in [("walks", "steps_of"), ("patterns", "all_stands"), ("patterns", "deeds_over"),
                             ("likeness", "likenesses"), ("pairs", "beginning_pairs"), ("layers", "layers_of")]:

@@ -87,7 +87,7 @@ class MarginTest(Case):
         self.assertEqual(margin.needed, 1)
         docket.shut(2)
         margin = margin_of(docket, 2, Who("owner"))
-        self.assertEqual((margin.needed, margin.example.years[1]), (1, (("sells", "ann", "bob"),)))
+        self.assertEqual((margin.needed, [len(deeds) for deeds in margin.example.years]), (1, [1, 1, 1]))
         docket.reopen(0)
         docket.take_back(0)
         docket.shut(0)

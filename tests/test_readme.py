@@ -11,7 +11,7 @@ class ReadmeTest(unittest.TestCase):
     def test_the_examples_print_what_they_say(self):
         with open(README, encoding="utf-8") as file:
             examples = re.findall(r"```python\n([\s\S]*?)```", file.read())
-        self.assertEqual(len(examples), 3)
+        self.assertEqual(len(examples), 5)
         for code in examples:
             told = re.findall(r"print\(.*\) +# (.*)", code)
             printed = io.StringIO()
