@@ -62,6 +62,15 @@ def check_rest(rest):
         raise BadRest(rest)
 
 
+def check_play(custom, stand, seat, person, rest=0):
+    """Raise the errors of a call that asks what a person can do for a seat from a stand on."""
+    check_stand(custom, stand)
+    check_seat(custom, seat)
+    check_person(person)
+    check_rest(rest)
+    check_size(custom)
+
+
 def check_size(custom):
     """Raise TooMany if there are too many stands of the custom's shape to go through."""
     if custom.most_stands > MOST_STANDS:

@@ -57,10 +57,9 @@ def _plain_table(pairs):
     """The plain forms of the pairs by their keys, each once."""
     table = {}
     for pair in pairs:
+        # Nearly all pairs that come here are plain, and need not be made anew.
         plain = pair if pair.is_plain else pair.plain()
-        key = _key_of(plain)
-        if key not in table:
-            table[key] = plain
+        table[_key_of(plain)] = plain
     return table
 
 

@@ -1,6 +1,6 @@
 """How soon a person can sit in a seat, whatever others do."""
 
-from searchback.checks import check_person, check_seat, check_size, check_stand
+from searchback.checks import check_play
 from searchback.frame import numbers_in
 from searchback.plans import Gets, Never
 from searchback.sides import Sides
@@ -9,10 +9,7 @@ from searchback.sieges import Pursuit
 
 def getting(custom, stand, seat, person):
     """Gets, with the least number of years, or Never."""
-    check_stand(custom, stand)
-    check_seat(custom, seat)
-    check_person(person)
-    check_size(custom)
+    check_play(custom, stand, seat, person)
     sides = Sides(custom, person)
     start = sides.number_of(stand)
     if sides.is_seated(stand.code, seat):

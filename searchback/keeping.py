@@ -1,6 +1,6 @@
 """Whether a person keeps a seat, though it is hindered for some years in a row."""
 
-from searchback.checks import check_person, check_rest, check_seat, check_size, check_stand
+from searchback.checks import check_person, check_play, check_rest, check_seat, check_size
 from searchback.frame import numbers_in
 from searchback.plans import Keeps, Loses
 from searchback.sides import Sides
@@ -45,11 +45,7 @@ class NoRest:
 
 def keeping(custom, stand, seat, person, *, rest=0):
     """Keeps if the person keeps the seat from the stand with this rest, else Loses."""
-    check_stand(custom, stand)
-    check_seat(custom, seat)
-    check_person(person)
-    check_rest(rest)
-    check_size(custom)
+    check_play(custom, stand, seat, person, rest)
     sides = Sides(custom, person)
     siege = Siege(sides, seat, rest)
     start = sides.number_of(stand)
@@ -71,10 +67,7 @@ def kept_stands(custom, seat, person, *, rest=0):
 
 def greatest_rest(custom, stand, seat, person):
     """With which rests the person keeps the seat from the stand."""
-    check_stand(custom, stand)
-    check_seat(custom, seat)
-    check_person(person)
-    check_size(custom)
+    check_play(custom, stand, seat, person)
     sides = Sides(custom, person)
     start = sides.number_of(stand)
     if is_never_lost(sides, seat, start):

@@ -3,7 +3,7 @@
 While a plan is judged, its rows are kept in a table by the numbers of their marked stands.
 """
 
-from searchback.checks import check_person, check_rest, check_seat, check_size, check_stand
+from searchback.checks import check_play
 from searchback.frame import numbers_in
 from searchback.plans import Gets, Keeps, Loses, Never
 from searchback.rounds import is_own
@@ -14,11 +14,7 @@ from searchback.walks import code_behind, code_led
 
 def keeping_fault(custom, stand, seat, person, paper, *, rest=0):
     """None if the paper shows whether the person keeps the seat, else the word for why not."""
-    check_stand(custom, stand)
-    check_seat(custom, seat)
-    check_person(person)
-    check_rest(rest)
-    check_size(custom)
+    check_play(custom, stand, seat, person, rest)
     sides = Sides(custom, person)
     if isinstance(paper, Keeps):
         return _keeps_fault(sides, stand, seat, paper, rest)
@@ -29,10 +25,7 @@ def keeping_fault(custom, stand, seat, person, paper, *, rest=0):
 
 def getting_fault(custom, stand, seat, person, paper):
     """None if the paper shows how soon the person can have the seat, else the word for why not."""
-    check_stand(custom, stand)
-    check_seat(custom, seat)
-    check_person(person)
-    check_size(custom)
+    check_play(custom, stand, seat, person)
     sides = Sides(custom, person)
     if isinstance(paper, Gets):
         return _gets_fault(sides, stand, seat, paper)

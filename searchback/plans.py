@@ -22,11 +22,7 @@ class Keeps:
 
     def own_row(self, stand, person):
         """The own row at a stand, with the persons called as there."""
-        marked = marked_stand(stand, person)
-        for held, _, own in self.rows:
-            if held == marked:
-                return _called_deeds(own, held, stand, person)
-        raise NoRow()
+        return _own_row(self.rows, stand, person)
 
 
 class Loses:
@@ -70,11 +66,7 @@ class Gets:
 
     def own_row(self, stand, person):
         """The own row at a stand, with the persons called as there."""
-        marked = marked_stand(stand, person)
-        for held, _, own in self.rows:
-            if held == marked:
-                return _called_deeds(own, held, stand, person)
-        raise NoRow()
+        return _own_row(self.rows, stand, person)
 
 
 class Never:
@@ -95,6 +87,15 @@ class Never:
             if held == marked:
                 return _called_deeds(others, held, stand, person)
         raise NoRow()
+
+
+def _own_row(rows, stand, person):
+    """The own row of the first row of the marked stand, with the persons called as in the stand."""
+    marked = marked_stand(stand, person)
+    for held, _, own in rows:
+        if held == marked:
+            return _called_deeds(own, held, stand, person)
+    raise NoRow()
 
 
 def _are_rows(rows, length):
