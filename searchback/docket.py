@@ -7,7 +7,7 @@ from searchback.errors import (
     BadDeed, BadDocket, BadLog, NoNews, NoPlace, NoYear, Overfull, YearIsNotShut, YearIsShut,
 )
 from searchback.histories import history_of
-from searchback.labels import is_sequence, is_whole
+from searchback.labels import is_count, is_sequence, is_whole
 from searchback.stand import Stand
 from searchback.walks import code_behind
 
@@ -112,9 +112,8 @@ class Docket:
 
     def take_back(self, number):
         """Take out the deed that was told under this number, and return its news as it stood."""
-        if not is_whole(number, 0, self.next_number - 1):
-            raise NoNews(number)
-        found = [one for one in self.news() if one.number == number]
+        # True is equal to 1 and is no number.
+        found = [one for one in self.news() if is_count(number) and one.number == number]
         if not found:
             raise NoNews(number)
         taken = found[0]
@@ -190,11 +189,6 @@ class Trial:
 
     def __init__(self, docket):
         self.docket = docket
-        self.rows = ()
-        self.shut_years = ()
-        self.log = ()
-        self.numbers = ()
-        self.next_number = 0
 
     def __enter__(self):
         self.rows = self.docket.rows

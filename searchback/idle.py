@@ -2,7 +2,6 @@
 
 from searchback.abreast import Abreast
 from searchback.alike import asked_of_both, joint_of
-from searchback.checks import check_size
 from searchback.customs import deed_step, end_step
 from searchback.errors import NoClause
 from searchback.histories import history_of
@@ -26,7 +25,6 @@ def idle_clauses(custom):
 def acting_history(custom, index):
     """A history of the least number of years in which the clause acts, in its last year; None if it is idle."""
     _check_index(index, len(custom))
-    check_size(custom)
     coming = coming_stands(custom)
     kind = custom.clauses[index].kind
     found = None

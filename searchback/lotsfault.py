@@ -65,7 +65,7 @@ def _are_wrong_years(found, verdict, due):
         return verdict.years is not None
     if isinstance(verdict.found, Endless):
         return verdict.years is not None or verdict.word != "endless"
-    if verdict.years is None or verdict.years != verdict.found.years or verdict.word == "endless":
+    if verdict.years != verdict.found.years or verdict.word == "endless":
         return True
     return (verdict.word == "far") != (verdict.years > found.years)
 

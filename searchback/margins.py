@@ -129,7 +129,7 @@ def _example_of(frame, way):
     years = []
     deeds = []
     for is_put, step in way:
-        if not is_put and step is None:
+        if step is None:
             code = end_step(frame.custom, code)[1]
             years.append(tuple(deeds))
             deeds = []

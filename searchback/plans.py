@@ -123,7 +123,7 @@ def _called_deeds(deeds, marked, stand, person):
     names = dict(zip(marked.persons, stand.persons))
     names[person] = person
     named = [label for deed in deeds for label in deed[1:]]
-    others = tuple({label: True for label in named if label not in names})
-    fresh = fresh_labels((*stand.persons, person), len(others))
-    names = {**names, **dict(zip(others, fresh))}
+    others = list({label: True for label in named if label not in names})
+    for label, fresh in zip(others, fresh_labels((*stand.persons, person), len(others))):
+        names[label] = fresh
     return tuple([(deed[0], *[names[label] for label in deed[1:]]) for deed in deeds])

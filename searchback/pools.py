@@ -1,6 +1,6 @@
 """Pools: a custom with some amendments, of which any lot can be chosen."""
 
-from searchback.amendments import Amendment, Drop, Limit, PutIn, Swap, limited_clause
+from searchback.amendments import Amendment, Drop, Limit, PutIn, limited_clause
 from searchback.choices import lots_of
 from searchback.customs import MOST_CLAUSES, Custom
 from searchback.errors import BadLot, BadPool, Clash
@@ -88,7 +88,7 @@ class Pool:
             elif isinstance(amendment, Limit):
                 old = self.custom.clauses[amendment.clause]
                 standing[amendment.clause] = [limited_clause(old, amendment.condition, amendment.limit)]
-            elif isinstance(amendment, Swap):
+            else:
                 at = amendment.clause
                 standing[at], standing[at + 1] = standing[at + 1], standing[at]
         rows = [*standing, []]

@@ -188,7 +188,7 @@ class ErrorsTest(Case):
     def test_do(self):
         docket = some_docket()
         bad = [*NO_SEQUENCES, (), [], ("far", 1), ("told", 0, 0, ("takes", "a")), ("tell",), ("tell", 0, 0), (["shut"], 0),
-               ("tell", 0, 0, ("takes", "a"), 0), ("take back",), ("take back", 0, 0), ("shut",), ("shut", 0, 0), ("reopen",),
+               ("tell", 0, 0, ("takes", "a"), 0), ("far",), ("take back",), ("take back", 0, 0), ("shut",), ("shut", 0, 0), ("reopen",),
                ("reopen", 2, 2), (None, 0), (0, 0), ("Shut", 0), ("take_back", 0), (("shut",), 0), [{}, 1], "shut"]
         for row in bad:
             self.changes_nothing((BadLog,), docket, docket.do, row)
@@ -213,6 +213,7 @@ class ErrorsTest(Case):
                 docket = Docket.replayed(custom, 2, rows, ahead=ahead)
                 self.assertEqual((docket.rows, docket.shut_years, docket.ahead), (((("takes", "a"),), ()), (1,), ahead))
                 self.assertEqual(docket.log, (("shut", 1), ("tell", 0, 0, ("takes", "a"))))
+            self.assertIs(Docket.replayed(custom, 2, rows).ahead, False)
 
     def test_keeps_nothing(self):
         docket = Docket(plain_custom(), 1)

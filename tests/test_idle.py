@@ -57,6 +57,16 @@ class IdleTest(Case):
         self.assertEqual(trimmed(custom).clauses, tuple([custom.clauses[index] for index in (1, 3, 4)]))
         self.assertEqual(idle_clauses(clocked_custom(1, 1)), ())
 
+    def test_the_stand_that_comes_first_is_not_the_first_one_in_order(self):
+        custom = clocked_custom(2, 1, 3, kinds=[("x", 1), ("z", 0)], clauses=[
+            Clause("x", [], [Put("p", "first"), ToRoom("s")]), Clause("z", [InRoom("s")], []),
+            Clause("year", [AtLeast("k", 3), Is("p", "nobody")], [ToRoom("s")])])
+        self.assertEqual([len(acting_history(custom, index)) for index in range(3)], [1, 1, 3])
+        # Here it is the other way round.
+        custom = custom.with_clauses([Clause("x", [AtLeast("k", 2)], [Put("p", "first"), ToRoom("s")]), custom.clauses[1],
+                                      Clause("year", [], [ToRoom("s")])])
+        self.assertEqual([len(acting_history(custom, index)) for index in range(3)], [3, 2, 1])
+
     def test_an_act_without_changes_counts(self):
         custom = clocked_custom(1, 1, clauses=[Clause("x"), Clause("year"), Clause("year")])
         self.assertEqual(idle_clauses(custom), (2,))
