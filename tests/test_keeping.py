@@ -9,7 +9,7 @@ from searchback.getting import getting
 from searchback.keeping import Always, NoRest, Rest, greatest_rest, kept_stands, keeping
 from searchback.kinds import Kinds
 from searchback.planfaults import keeping_fault
-from searchback.plans import Gets, Keeps, Loses
+from searchback.plans import Gets, Keeps, Loses, Never
 from searchback.questions import Who
 from searchback.rounds import ends_of_rounds, marked_stand, marked_stands
 from searchback.stand import Stand
@@ -124,6 +124,22 @@ class KeepingTest(Case):
                 self.assertEqual(greatest_rest(custom, stand, "owner", "x"), Rest(min(cap - 2, cap - 1 - shown)))
             paper = keeping(custom, Stand("calm", ["x"], [(0, True)]), "owner", "x", rest=cap - 2)
             self.assertEqual({level for _, level, _ in paper.rows}, set(range(cap - 1)))
+
+    def test_deeds_that_name_who_sits(self):
+        # The owner must pay whoever sits in the other seat; the heir alone can call for the year's rent.
+        custom = Custom(Kinds([("pays", 2), ("calls", 1)]), ["calm", "loud"], ["owner", "heir"], [], [
+            Clause("pays", [Is("owner", "first"), Is("heir", "second")], [ToRoom("calm")]),
+            Clause("calls", [Is("heir", "first")], [ToRoom("loud")]),
+            Clause("year", [InRoom("loud")], [Put("owner", "nobody")])])
+        for heir in ("a", "b", "ann", "zed"):
+            stand = Stand("calm", ["x", heir])
+            paper = keeping(custom, stand, "owner", "x")
+            self.assertEqual(paper.own_row(Stand("loud", ["x", heir]), "x"), (("pays", "x", heir),))
+            paper = keeping(custom, stand, "owner", "x", rest=1)
+            self.assertEqual((paper.years, paper.others_row(stand, "x", 0)), (1, ((("calls", heir),), True)))
+            self.assertIs(type(getting(custom, Stand("loud", [None, heir]), "owner", "x")), Never)
+        self.assertIs(type(keeping(custom, Stand("calm", ["x", "x"]), "owner", "x", rest=500)), Keeps)
+        self.assertIs(type(keeping(custom, Stand("calm", ["x", None]), "owner", "x", rest=500)), Keeps)
 
     def test_a_seat_in_which_nobody_ever_sits(self):
         custom = clocked_custom(2, 2, 1, kinds=[("x", 1)], clauses=[Clause("x", [], [Put("p", "first"), ToRoom("s")])])
