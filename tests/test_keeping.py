@@ -125,6 +125,31 @@ class KeepingTest(Case):
             paper = keeping(custom, Stand("calm", ["x"], [(0, True)]), "owner", "x", rest=cap - 2)
             self.assertEqual({level for _, level, _ in paper.rows}, set(range(cap - 1)))
 
+    def test_ways_that_meet_again(self):
+        # Whatever the person does in the first year, the second one leads to the same stand.
+        custom = Custom(Kinds([("goes", 1)]), ["r", "s", "t"], ["owner"], [("k", 3, True)], [
+            Clause("goes", [Is("owner", "first"), InRoom("r")], [ToRoom("s")]),
+            Clause("year", [AtLeast("k", 3)], [Put("owner", "nobody")]), Clause("year", [AtLeast("k", 2)], [ToRoom("t")])])
+        start = Stand("r", ["x"], [(0, True)])
+        for rest in (0, 2):
+            paper = keeping(custom, start, "owner", "x", rest=rest)
+            self.assertEqual(paper.years, 3)
+            self.assertIsNone(keeping_fault(custom, start, "owner", "x", paper, rest=rest))
+        rows = keeping(custom, start, "owner", "x").rows
+        self.assertEqual({row[0].code for row in rows}, {
+            start.code, ("r", ("x",), ((1, True),)), ("s", ("x",), ((1, True),)), ("t", ("x",), ((2, True),))})
+        self.assertEqual((len(rows), {row[1] for row in rows}), (4, {0}))
+
+    def test_the_rest_is_0_if_none_is_asked(self):
+        custom, start = owned_custom(), Stand("r", ["x"], [(0, True)])
+        paper = keeping(custom, start, "owner", "x")
+        self.assertEqual(paper.rest, 0)
+        self.assertIsNone(keeping_fault(custom, start, "owner", "x", paper))
+        self.assertEqual(keeping_fault(custom, start, "owner", "x", Keeps(1, paper.rows)), "rest")
+        self.assertEqual(keeping_fault(custom, start, "owner", "x", Loses(1, 0, ())), "rest")
+        self.assertEqual(kept_stands(custom, "owner", "x"), kept_stands(custom, "owner", "x", rest=0))
+        self.assertNotEqual(kept_stands(custom, "owner", "x"), kept_stands(custom, "owner", "x", rest=1))
+
     def test_deeds_that_name_who_sits(self):
         # The owner must pay whoever sits in the other seat; the heir alone can call for the year's rent.
         custom = Custom(Kinds([("pays", 2), ("calls", 1)]), ["calm", "loud"], ["owner", "heir"], [], [
