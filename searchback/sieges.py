@@ -5,8 +5,8 @@ class Siege:
     """How soon others can bring it about that the person does not sit in the seat at a year's end.
 
     Item n of `layers` has, for 0, 1, .., rest hindered years in a row just past, the lot of the
-    moments from which others do so within n years. It depends on the layer ahead alone, so that
-    there is no other one behind one that is equal to the layer ahead.
+    moments from which others do so within n years. A layer follows from the one ahead of it alone,
+    so the last one is the first behind which nothing changes any more.
     """
 
     def __init__(self, sides, seat, rest):
@@ -53,7 +53,7 @@ class Siege:
         return tuple(rows)
 
     def _forced(self, hindered, unsaved):
-        """From where others come to where the year's end leads into the first lot, or into the second one."""
+        """Where others can come to a moment whose year's end leads into the one lot, or to one of the other lot."""
         key = (hindered, unsaved)
         if key not in self.known:
             self.known[key] = self.sides.forced(self.sides.ending(hindered) | unsaved)
