@@ -124,6 +124,6 @@ def _called_deeds(deeds, marked, stand, person):
     names[person] = person
     named = [label for deed in deeds for label in deed[1:]]
     others = list({label: True for label in named if label not in names})
-    for label, fresh in zip(others, fresh_labels((*stand.persons, person), len(others))):
-        names[label] = fresh
+    for other, fresh in zip(others, fresh_labels((*stand.persons, person), len(others))):
+        names[other] = fresh
     return tuple([(deed[0], *[names[label] for label in deed[1:]]) for deed in deeds])

@@ -55,6 +55,17 @@ def local_names(function):
     return found
 
 
+def bound_names(nodes):
+    """The names that these assignments or targets bind, without those within comprehensions."""
+    found = set()
+    for node in nodes:
+        for target in getattr(node, "targets", [getattr(node, "target", node)]):
+            found.update(
+                part.id for part in ast.walk(target) if isinstance(part, ast.Name) and isinstance(part.ctx, ast.Store)
+            )
+    return found - {"_"}
+
+
 def top_names(tree):
     """The names that a file binds at module level, in order."""
     found = []
@@ -313,6 +324,18 @@ class RulesTest(unittest.TestCase):
             if isinstance(node.func, ast.Name) and node.func.id in TAKES_LISTS:
                 for arg in node.args:
                     self.assertNotIsInstance(arg, ast.GeneratorExp, place)
+
+    def test_names_in_comprehensions(self):
+        kinds = (ast.ListComp, ast.DictComp, ast.SetComp, ast.GeneratorExp)
+        for place, node in walked(ast.FunctionDef):
+            found = [part for part in ast.walk(node) if isinstance(part, kinds)]
+            own = {part: bound_names([row.target for row in part.generators]) for part in found}
+            bound = bound_names([part for part in ast.walk(node) if isinstance(part, (ast.Assign, ast.AugAssign))])
+            bound |= bound_names([part.target for part in ast.walk(node) if isinstance(part, ast.For)])
+            for outer in found:
+                for inner in ast.walk(outer):
+                    if inner is not outer and inner in own:
+                        self.assertEqual(own[inner] & (bound | own[outer]), set(), place)
 
     def test_sets(self):
         for name, tree in trees().items():
