@@ -57,7 +57,8 @@ class Abreast:
         while at < len(waiting):
             node = waiting[at]
             at += 1
-            for to in self.joint.led(node):
+            # A list of its own, since the loop changes what this object holds.
+            for to in list(self.joint.led(node)):
                 if to not in self.moments:
                     self.moments[to] = (node, False)
                     waiting.append(to)
