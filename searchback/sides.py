@@ -100,7 +100,8 @@ class Sides:
         ways = self.own_ways if own else self.others_ways
         back = self.own_back if own else self.others_back
         view = view_of(seats, deed)
-        for face, (to, places) in enumerate(self.frame.faces.outcomes(deed[0], view)):
+        # A list of its own, since the loop changes what this object holds.
+        for face, (to, places) in list(enumerate(self.frame.faces.outcomes(deed[0], view))):
             number = self.frame.number_at(row, face)
             seating = self.frame.seating_of(tuple([view[place] for place in places]))
             behind = self.frame.number_at(seating, to)
