@@ -55,6 +55,48 @@ def local_names(function):
     return found
 
 
+def changed_things(nodes):
+    """What these statements change: whatever has an item put in or deleted, or a method called that changes it."""
+    found = []
+    for part in ast.walk(ast.Module(nodes, [])):
+        if isinstance(part, ast.Call) and isinstance(part.func, ast.Attribute) and part.func.attr in CHANGING:
+            found.append(part.func.value)
+        if isinstance(part, ast.Subscript) and not isinstance(part.ctx, ast.Load):
+            found.append(part.value)
+    return found
+
+
+def names_of_held_things(function):
+    """The names to which a function gives what an object holds, or one of several things."""
+    found = set()
+    for node in ast.walk(function):
+        if isinstance(node, ast.Assign):
+            value = node.value
+            while isinstance(value, ast.Subscript):
+                value = value.value
+            if isinstance(value, (ast.Attribute, ast.IfExp, ast.BoolOp)):
+                found.update(bound_names([node]))
+    return found
+
+
+def is_held(thing, names):
+    """Whether a thing, or what it is an item of, is an attribute or has one of these names."""
+    while isinstance(thing, ast.Subscript):
+        thing = thing.value
+    return isinstance(thing, ast.Attribute) or isinstance(thing, ast.Name) and thing.id in names
+
+
+def walks_result(over, own):
+    """Whether a loop goes straight over what one of these own functions, or `get`, hands back."""
+    if not isinstance(over, ast.Call):
+        return False
+    if isinstance(over.func, ast.Attribute):
+        return over.func.attr in own or over.func.attr == "get"
+    if over.func.id in ("enumerate", "zip", "reversed"):
+        return any(walks_result(arg, own) for arg in over.args)
+    return over.func.id in own
+
+
 def bound_names(nodes):
     """The names that these assignments or targets bind, without those within comprehensions."""
     found = set()
@@ -356,11 +398,18 @@ class RulesTest(unittest.TestCase):
     def test_loops_do_not_change_what_they_go_over(self):
         for place, node in walked(ast.For):
             over = ast.dump(node.iter)
-            for part in ast.walk(ast.Module(node.body, [])):
-                if isinstance(part, ast.Call) and isinstance(part.func, ast.Attribute) and part.func.attr in CHANGING:
-                    self.assertNotIn(ast.dump(part.func.value), over, place)
-                if isinstance(part, ast.Subscript) and not isinstance(part.ctx, ast.Load):
-                    self.assertNotIn(ast.dump(part.value), over, place)
+            for thing in changed_things(node.body):
+                self.assertNotIn(ast.dump(thing), over, place)
+
+    def test_loops_over_results_do_not_change_what_is_held(self):
+        # A function may hand back the very thing that an object holds.
+        own = {node.name for _, node in walked(ast.FunctionDef)}
+        for place, function in walked(ast.FunctionDef):
+            names = names_of_held_things(function)
+            for node in ast.walk(function):
+                if isinstance(node, ast.For) and walks_result(node.iter, own):
+                    for thing in changed_things(node.body):
+                        self.assertFalse(is_held(thing, names), (place, thing.lineno))
 
     def test_errors_are_made_on_the_spot(self):
         for place, node in walked(ast.Raise):
